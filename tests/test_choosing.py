@@ -104,7 +104,9 @@ class ChoosingTest(unittest.TestCase):
             (rows, ((1, 0), (1, 1), (0, 0))), (((0, 0), (0, 1), (1, True)), three), (rows, ((0, True), (1, 1), (0, 0))),
             (((0, 0), [0, 1], (1, 1)), three), (rows, ([0, 1], (1, 1), (0, 0))), (((0,), (0, 1), (1, 1)), three),
             (((0, 0), (0, 1), (1, 2)), three), ((), three), ((), ()), (rows, None), (None, three), (((),), ((), (), ())),
-            (FOUR[1], three)]
+            (FOUR[1], three), ((0, 1), three), ((None,), three), (("a", "b"), three), (((0, 0), 0, (1, 1)), three)]
+        for word in ("way", "lot", "closed", None, 0, ("kept",)):
+            self.assertIs(choosing_holds([AND], (word, rows, three)), False, word)
         self.assertIs(choosing_holds([AND], ("kept", rows, three)), True)
         for own, others in wrong:
             self.assertIs(choosing_holds([AND], ("kept", own, others)), False, (own, others))

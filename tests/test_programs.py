@@ -93,6 +93,13 @@ class ProgramsTest(unittest.TestCase):
             self.assertEqual(need_program(FRAME, (row,)), (row,))
             self.assertEqual(outcome(need_program, DRY, (row,)), (InvalidProgram, 0))
         self.assertEqual(outcome(need_program, (2, 1, 0, (), 0), (("op", 0, 0, 0, 0),)), (InvalidProgram, 0))
+        # Registers are named, of which there may be fewer than cells, or more.
+        for registers in (1, 3, 4):
+            frame, last = (2, registers, 2, (), 0), registers - 1
+            for word in ("load", "store"):
+                self.assertEqual(outcome(need_program, frame, ((word, last, last),))[0], "told")
+                for row in ((word, registers, 0), (word, 0, registers)):
+                    self.assertEqual(outcome(need_program, frame, (row,)), (InvalidProgram, 0))
 
     def test_loops_are_unrolled_also_within_rows(self):
         fence, load = ("fence",), ("load", 0, 1)
