@@ -4,7 +4,7 @@ from leastpromise.atoms import need_lot, values_at
 from leastpromise.errors import InvalidIndex, InvalidSource
 from leastpromise.kinds import is_ascending, is_sequence, is_tuple_of, wrong_in_lot
 from leastpromise.programs import (
-    all_data, is_datum, is_silent_row, need_frame, need_program, spots_many, unrolled_rows)
+    all_data, is_datum, is_silent_row, need_frame, need_program, silent_rows, spots_many, unrolled_rows)
 from leastpromise.runs import left_of, plain_event
 
 
@@ -105,16 +105,6 @@ def silent_moves(frame, lot):
     for row in silent_rows(frame):
         moves.append((row, {datum: shown_move(frame, lot, row, datum) for datum in data}))
     return moves
-
-
-def silent_rows(frame):
-    registers = range(frame[1])
-    pairs = [(one, other) for one in registers for other in registers]
-    tables = range(len(frame[3]))
-    rows = [("op", table, to) + pair for table in tables for to in registers for pair in pairs]
-    if frame[2]:
-        rows.extend([(word,) + pair for word in ("load", "store") for pair in pairs])
-    return rows
 
 
 def shown_move(frame, lot, row, datum):

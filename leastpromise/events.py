@@ -31,17 +31,7 @@ def events_many(frame):
 def need_processor(frame, value):
     """The processor itself: (guesses, steps)."""
     need_frame(frame)
-    if not is_tuple_of(value, 2) or not isinstance(value[0], tuple) or not is_tuple_of(value[1], len(value[0])):
-        raise InvalidProcessor(-1)
-    guesses, steps = value
-    if not 1 <= len(guesses) <= MOST_STATES:
-        raise InvalidProcessor(-1)
-    if not all([is_below(guess, GUESSES_MANY) for guess in guesses]):
-        raise InvalidProcessor(0)
-    many = len(events_of(frame))
-    for state, row in enumerate(steps):
-        if not is_tuple_of(row, many) or not all([is_reading(read, len(guesses)) for read in row]):
-            raise InvalidProcessor(state + 1)
+    need_readings(len(events_of(frame)), value)
     return value
 
 
@@ -77,6 +67,20 @@ def read_events(frame, processor, state, numbers):
         if not is_below(number, many):
             raise InvalidEvents(at)
     return read_numbers(processor, state, numbers)
+
+
+def need_readings(many, value):
+    """Guesses, and for each state so many readings."""
+    if not is_tuple_of(value, 2) or not isinstance(value[0], tuple) or not is_tuple_of(value[1], len(value[0])):
+        raise InvalidProcessor(-1)
+    guesses, steps = value
+    if not 1 <= len(guesses) <= MOST_STATES:
+        raise InvalidProcessor(-1)
+    if not all([is_below(guess, GUESSES_MANY) for guess in guesses]):
+        raise InvalidProcessor(0)
+    for state, row in enumerate(steps):
+        if not is_tuple_of(row, many) or not all([is_reading(read, len(guesses)) for read in row]):
+            raise InvalidProcessor(state + 1)
 
 
 def need_state(frame, processor, state):

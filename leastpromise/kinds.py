@@ -55,3 +55,10 @@ def wrong_in_lot(values, many):
         if not is_below(value, many) or at > 0 and value <= values[at - 1]:
             return at
     return None
+
+
+def is_same(value, told):
+    """Whether any value is just what was told: numbers and tuples, with no bool for a number."""
+    if isinstance(told, tuple):
+        return is_tuple_of(value, len(told)) and all([is_same(part, own) for part, own in zip(value, told)])
+    return isinstance(value, bool) == isinstance(told, bool) and value == told

@@ -86,6 +86,11 @@ def need_data(frame, data):
     return tuple(data)
 
 
+def is_program(frame, value):
+    """Whether any value is a program of the frame."""
+    return are_rows(frame, value)
+
+
 def is_row(frame, row):
     """Whether a value is a row of a program, with all rows within it."""
     if not isinstance(row, tuple) or len(row) == 0:
@@ -110,6 +115,27 @@ def is_silent_row(frame, row):
     if row[0] in ("load", "store"):
         return frame[2] > 0 and len(row) == 3 and are_below(row[1:], frame[1])
     return False
+
+
+def silent_rows(frame):
+    """All operations, loads and stores."""
+    spots = range(frame[1])
+    pairs = [(one, other) for one in spots for other in spots]
+    tables = range(len(frame[3]))
+    rows = [("op", table, to) + pair for table in tables for to in spots for pair in pairs]
+    if frame[2]:
+        rows.extend([(word,) + pair for word in ("load", "store") for pair in pairs])
+    return rows
+
+
+def plain_rows(frame):
+    """All operations, loads, stores and fences, ascending."""
+    return (("fence",),) + tuple(sorted(silent_rows(frame)))
+
+
+def fork_gone(on, side, wrong):
+    """The fork whose side that is gone is empty, the other one a wrong way."""
+    return ("fork", on) + (((), wrong) if side == 0 else (wrong, ()))
 
 
 def unrolled_rows(rows):

@@ -54,28 +54,42 @@ def need_run(frame, program, datum):
 
 
 def steps_of(frame, rows, datum):
-    """The steps of unrolled rows on the datum."""
-    return gone_through(frame, rows, datum)[0]
+    """The steps of rows on the datum."""
+    return tuple([step for _, _, step in passed_rows(frame, rows, (), datum)[0]])
 
 
 def left_of(frame, rows, datum):
-    """What unrolled rows leave of the datum."""
-    return gone_through(frame, rows, datum)[1]
+    """What rows leave of the datum."""
+    return passed_rows(frame, rows, (), datum)[1]
 
 
-def gone_through(frame, rows, datum):
-    """(the steps of unrolled rows on the datum, what they leave of it)."""
-    steps = []
-    for row in rows:
-        if row[0] == "fork":
-            side = 0 if datum[row[1]] == 0 else 1
-            steps.append((("fork", side), wrong_events(frame, row[3 - side], datum)))
-            more, datum = gone_through(frame, row[2 + side], datum)
-            steps.extend(more)
+def passed_rows(frame, rows, ahead, datum):
+    """((path, row, step) for each row that is gone through, what the rows leave of the datum).
+
+    A path is the numbers that lead to a row from those ahead: rows' numbers, and behind a fork the side.
+    """
+    passed = []
+    for at, row in enumerate(rows):
+        path = ahead + (at,)
+        if row[0] == "loop":
+            for _ in range(row[1]):
+                more, datum = passed_rows(frame, row[2], path, datum)
+                passed.extend(more)
+        elif row[0] == "fork":
+            side = side_of(row, datum)
+            wrong = wrong_events(frame, unrolled_rows(row[3 - side]), datum)
+            passed.append((path, row, (("fork", side), wrong)))
+            more, datum = passed_rows(frame, row[2 + side], path + (side,), datum)
+            passed.extend(more)
         else:
             event, datum = plain_event(frame, row, datum)
-            steps.append((event, ()))
-    return tuple(steps), datum
+            passed.append((path, row, (event, ())))
+    return passed, datum
+
+
+def side_of(fork, datum):
+    """The side that the datum goes at the fork."""
+    return 0 if datum[fork[1]] == 0 else 1
 
 
 def wrong_events(frame, rows, datum):

@@ -169,3 +169,75 @@ def slow_run(frame, program, datum):
 
     go(program)
     return tuple(steps), tuple(now)
+
+
+def quiet_processor(draw, many_events, states, often=0.06):
+    """A processor whose events seldom take two beats."""
+    guesses, rows = some_processor(draw, many_events, states)
+    beats = lambda: 2 if draw.random() < often else 1
+    return guesses, tuple(tuple((beats(), state) for _, state in row) for row in rows)
+
+
+def kind_processor(draw, events, states, parts=0.3):
+    """A processor that looks at few values: events alike at them are read alike."""
+    rows = []
+    for _ in range(states):
+        looked, read = [draw.random() < parts for _ in range(10)], {}
+        row = []
+        for event in events:
+            first = {"op": 0, "load": 2, "store": 4, "wrong op": 6, "wrong load": 8}.get(event[0])
+            seen = event[:1] if first is None else event[:-2]
+            if first is not None:
+                seen += tuple(value for part, value in enumerate(event[-2:]) if looked[first + part])
+            row.append(read.setdefault(seen, (draw.choice((1, 1, 1, 2)), draw.randrange(states))))
+        rows.append(tuple(row))
+    return tuple(draw.randrange(4) for _ in range(states)), tuple(rows)
+
+
+def with_part(value, at, part):
+    return value[:at] + (part,) + value[at + 1:]
+
+
+def wrong_kinds(value):
+    """The value with one tuple turned to a list, or one 0 or 1 to a bool, at any depth."""
+    if isinstance(value, tuple):
+        yield list(value)
+        for at, part in enumerate(value):
+            for changed in wrong_kinds(part):
+                yield with_part(value, at, changed)
+    elif isinstance(value, int) and value in (0, 1):
+        yield bool(value)
+
+
+def mangled(value):
+    """The value with an item of some tuple left out, doubled, exchanged with the next one, or made another one."""
+    if isinstance(value, tuple):
+        for at, part in enumerate(value):
+            yield value[:at] + value[at + 1:]
+            yield value[:at] + (part, part) + value[at + 1:]
+            if at + 1 < len(value):
+                yield value[:at] + (value[at + 1], part) + value[at + 2:]
+            for other in (None, "", -1, HUGE, (), []):
+                yield with_part(value, at, other)
+            for changed in mangled(part):
+                yield with_part(value, at, changed)
+    elif isinstance(value, int):
+        yield value + 1
+        yield value - 1
+
+
+def try_judge(test, judge, paper, expected=None):
+    """The paper holds; none with a list or a bool in it does; no changed one raises, each is as expected tells."""
+    test.assertIs(judge(paper), True, paper)
+    for value in wrong_kinds(paper):
+        test.assertIs(judge(value), False, value)
+    for value in mangled(paper):
+        told = judge(value)
+        test.assertIn(told, (True, False))
+        if expected is not None:
+            test.assertIs(told, expected(value), value)
+    for value in ANY:
+        told = judge(value)
+        test.assertIn(told, (True, False))
+        if expected is not None:
+            test.assertIs(told, expected(value), value)

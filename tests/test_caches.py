@@ -6,8 +6,10 @@ import unittest
 
 from leastpromise.caches import (
     cache_lines, cache_processor, cache_views, first_in, least_cap, least_recent, stay_most)
+from leastpromise.court import is_kept
 from leastpromise.errors import InvalidCache, InvalidFrame, InvalidIndex, InvalidSize, Refused
 from leastpromise.events import frame_events, need_processor, read_events, view_of
+from leastpromise.leaks import least_promises
 from leastpromise.runs import run_steps, trace_of, unlike_atoms
 from tests.samples import ANY, HUGE, XOR, data_of, outcome, some_programs, try_order, try_wrong
 
@@ -249,6 +251,18 @@ class CacheProcessorTest(unittest.TestCase):
         self.assertTrue(all({2, 4, 8} & set(atoms) for _, atoms in parted))
         for guess, atom in ((0, 2), (3, 2), (3, 4), (3, 8)):
             self.assertTrue(any(own == guess and atom in atoms for own, atoms in parted), (guess, atom))
+
+    def test_the_promises_that_it_keeps(self):
+        draw = random.Random(47)
+        for frame in ((2, 2, 2, (), 1), (2, 2, 2, (XOR,), 0), (2, 2, 2, (XOR,), 1), (2, 2, 2, (), 2)):
+            for cache in some_caches(3, 47, 2, 3) + [ONE, first_in(2), least_recent(2)]:
+                for guess in range(4):
+                    needed = {2, 4, 8} if guess and frame[4] else {2, 4}
+                    processor = cache_processor(frame, cache, guess)
+                    self.assertEqual(least_promises(frame, processor), (tuple(sorted(needed)),))
+                    for lot in [tuple(sorted(needed - {atom})) for atom in needed] + [
+                            tuple(atom for atom in range(10) if draw.random() < 0.8)]:
+                        self.assertIs(is_kept(frame, processor, lot), needed <= set(lot), (frame, cache, guess, lot))
 
     def test_each_of_the_atoms_is_shown(self):
         programs = {

@@ -35,6 +35,41 @@ PARAMETERS = {
     "caches": {
         "cache_views": "cache row", "cache_lines": "cache row", "first_in": "lines", "least_recent": "lines",
         "stay_most": "cache", "least_cap": "cache", "cache_processor": "frame cache guess"},
+    "closed": {"wide_paper": "frame processor lot", "wide_holds": "frame processor lot value"},
+    "code": {
+        "loud_sides": "frame program lot classes", "fenced_program": "frame program sides",
+        "compiled": "frame lot classes places program", "compiled_holds": "frame lot classes places program value"},
+    "court": {
+        "flat_rows": "frame", "flat_program": "frame program datum", "court_paper": "frame processor lot",
+        "is_kept": "frame processor lot", "fewest_steps": "frame processor lot",
+        "court_holds": "frame processor lot value"},
+    "processors": {
+        "alike_parts": "frame processor", "parting_row": "frame processor one other",
+        "least_processor": "frame processor", "put_beside": "frame one other",
+        "telling_processor": "frame program one other"},
+    "texts": {"frame_text": "frame", "program_text": "frame program", "processor_text": "frame processor"},
+    "values": {
+        "read_atoms": "frame processor", "states_paper": "frame processor", "states_hold": "frame processor value"},
+    "bargain": {
+        "loudest": "frame lot", "is_loudest": "frame processor lot",
+        "parting_processor": "frame program one other lot"},
+    "leaks": {
+        "leak_holds": "frame processor lot value", "leak_within": "frame processor lot",
+        "least_leaks": "frame processor", "least_promises": "frame processor", "both_paper": "frame processor",
+        "both_hold": "frame processor value"},
+    "outlines": {
+        "compared": "size registers choices deep outline", "compared_atoms": "choices deep outline",
+        "coarse_table": "table up", "finer": "frame processor tables up"},
+    "passes": {
+        "meaning_gap": "frame rows others", "rule_paper": "frame rows others lot",
+        "rule_holds": "frame rows others lot value", "greatest_lot": "frame rows others lot",
+        "keeps_always": "frame rows others", "fewest_rows": "frame rows lot most",
+        "put_instead": "frame program rows others"},
+    "patterns": {
+        "row_pattern": "row", "access_ages": "row cap", "parting_cache": "one other", "cap_rows": "cache cap"},
+    "places": {
+        "loud_sites": "frame program secrets", "hidden_spots": "frame processor program",
+        "shielded_spots": "frame processor program", "covered_lots": "frame processor program"},
 }
 
 

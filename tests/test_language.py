@@ -55,6 +55,16 @@ def imported(tree):
     return [(node.module, alias.name) for node in tree.body if isinstance(node, ast.ImportFrom) for alias in node.names]
 
 
+def own_methods():
+    """The methods of all classes of the package."""
+    told = set()
+    for tree in trees().values():
+        for node in tree.body:
+            if isinstance(node, ast.ClassDef):
+                told |= {part.name for part in node.body if isinstance(part, ast.FunctionDef)}
+    return told - {"__init__"}
+
+
 class LanguageTest(unittest.TestCase):
     def test_files_and_sizes(self):
         names = {path.name for path in PACKAGE.iterdir() if path.name != "__pycache__"}
@@ -111,13 +121,15 @@ class LanguageTest(unittest.TestCase):
             self.assertTrue(all(word.isascii() and not word.startswith("__") for word in bound), name)
 
     def test_builtins_and_methods(self):
+        own = own_methods()
+        self.assertFalse(own & {word for kind in (str, int, list, dict, set, bytes, tuple) for word in dir(kind)})
         for name, tree in trees().items():
             known = bound_names(tree) | {word for _, word in imported(tree)} | BUILTINS | {"__init__"}
             for node in ast.walk(tree):
                 if isinstance(node, ast.Name):
                     self.assertIn(node.id, known, name)
                 if isinstance(node, ast.Call) and isinstance(node.func, ast.Attribute):
-                    self.assertIn(node.func.attr, METHODS, name)
+                    self.assertIn(node.func.attr, METHODS | own, name)
                     self.assertFalse(node.keywords, name)
                 if isinstance(node, ast.Call) and isinstance(node.func, ast.Name) and node.func.id in BUILTINS:
                     self.assertTrue({word.arg for word in node.keywords} <= KEYWORDS, name)
