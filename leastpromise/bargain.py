@@ -3,10 +3,10 @@
 from leastpromise.atoms import need_lot, values_at
 from leastpromise.counting import counting_processor, first_unlike
 from leastpromise.court import court_pairs
-from leastpromise.errors import InvalidDatum, Refused
+from leastpromise.errors import Refused
 from leastpromise.events import events_of
 from leastpromise.pairs import spread
-from leastpromise.programs import is_datum, need_frame, need_program, unrolled_rows
+from leastpromise.programs import need_frame, need_program, need_two_data, unrolled_rows
 from leastpromise.runs import steps_of
 
 MOST_STEPS_AHEAD = 50
@@ -39,9 +39,7 @@ def is_loudest(frame, processor, lot):
 def parting_processor(frame, program, one, other, lot):
     """Some processor that keeps the lot, and on which the program has unlike views on the two data."""
     need_program(frame, program)
-    for at, datum in enumerate((one, other)):
-        if not is_datum(frame, datum):
-            raise InvalidDatum(at)
+    need_two_data(frame, one, other)
     atoms, rows = need_lot(lot), unrolled_rows(program)
     found = first_unlike(steps_of(frame, rows, one), steps_of(frame, rows, other), atoms)
     if found is None:

@@ -180,12 +180,16 @@ def ordered_pair(one, other):
 
 
 def shared_fork(frame, pair):
-    """(the first register by which two data go one side, the side), or None."""
+    """The first register by which two data go one side, or None."""
     for on in range(frame[1]):
-        sides = [side_of(("fork", on), datum) for datum in pair]
-        if sides[0] == sides[1]:
-            return on, sides[0]
+        if do_share(on, pair[0], pair[1]):
+            return on
     return None
+
+
+def do_share(on, one, other):
+    """Whether two data go one side by this register."""
+    return side_of(("fork", on), one) == side_of(("fork", on), other)
 
 
 def wrong_move(frame, lot, row, datum):
@@ -206,7 +210,7 @@ def paper_of(leading, rows, others):
             behind = failing_rows(leading, rows, others, pair, leading.frame[4] - number)
             if behind is not None:
                 begin, ahead = level[pair]
-                return "wrong", shared_fork(leading.frame, begin)[0], ahead, behind, begin[0], begin[1]
+                return "wrong", shared_fork(leading.frame, begin), ahead, behind, begin[0], begin[1]
     return "keeps", tuple([tuple(sorted(level)) for level in levels])
 
 
@@ -225,7 +229,7 @@ def is_wrong(leading, rows, others, value):
     on, ahead, behind, one, other = value
     if not is_below(on, frame[1]) or not are_plain_rows(frame, ahead) or not are_plain_rows(frame, behind):
         return False
-    if not are_data(frame, (one, other)) or side_of(("fork", on), one) != side_of(("fork", on), other):
+    if not are_data(frame, (one, other)) or not do_share(on, one, other):
         return False
     return is_loud(leading, wrong_programs(rows, others, (on, ahead, behind, one)), (one, other))
 
@@ -248,12 +252,12 @@ def failing_rows(leading, rows, others, pair, left):
     level = {ordered_pair(one[1], other[1]): ()}
     for number in range(further if further > more else 0):
         ahead, level = level, {}
-        for later in [later for later in ahead if later is not None]:
-            for row, alike, last in leading.led_on(later):
+        for known in [known for known in ahead if known is not None]:
+            for row, alike, later in leading.led_on(known):
                 if not alike and number >= more:
-                    return ahead[later] + (row,)
+                    return ahead[known] + (row,)
                 if alike:
-                    level.setdefault(last, ahead[later] + (row,))
+                    level.setdefault(later, ahead[known] + (row,))
     return None
 
 

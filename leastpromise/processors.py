@@ -2,10 +2,10 @@
 
 from leastpromise.atoms import all_atoms
 from leastpromise.counting import counting_processor, first_unlike
-from leastpromise.errors import InvalidDatum, InvalidIndex, Refused
+from leastpromise.errors import InvalidIndex, Refused
 from leastpromise.events import MOST_STATES, need_processor
 from leastpromise.kinds import is_below
-from leastpromise.programs import is_datum, need_program, unrolled_rows
+from leastpromise.programs import need_program, need_two_data, unrolled_rows
 from leastpromise.runs import steps_of
 
 
@@ -74,9 +74,7 @@ def put_beside(frame, one, other):
 def telling_processor(frame, program, one, other):
     """Some processor on which the program's views on these two data are unlike."""
     need_program(frame, program)
-    for at, datum in enumerate((one, other)):
-        if not is_datum(frame, datum):
-            raise InvalidDatum(at)
+    need_two_data(frame, one, other)
     rows = unrolled_rows(program)
     found = first_unlike(steps_of(frame, rows, one), steps_of(frame, rows, other), all_atoms())
     if found is None:
@@ -87,11 +85,15 @@ def telling_processor(frame, program, one, other):
 def alike_kinds(processor):
     """For each state a number, alike for alike states."""
     guesses, steps = processor
-    kinds = numbered([(guess, [beats for beats, _ in row]) for guess, row in zip(guesses, steps)])
-    many = 0
+    return lasting_kinds([(guess, [beats for beats, _ in row]) for guess, row in zip(guesses, steps)], steps)
+
+
+def lasting_kinds(things, readings):
+    """For each state a number, alike for those with like things, of which all that is read leads to such ones again."""
+    kinds, many = numbered(things), 0
     while many < len(set(kinds)):
         many = len(set(kinds))
-        kinds = numbered([(kind, [kinds[later] for _, later in row]) for kind, row in zip(kinds, steps)])
+        kinds = numbered([(kind, [kinds[later] for _, later in reading]) for kind, reading in zip(kinds, readings)])
     return kinds
 
 

@@ -86,6 +86,12 @@ def need_data(frame, data):
     return tuple(data)
 
 
+def need_two_data(frame, one, other):
+    for at, datum in enumerate((one, other)):
+        if not is_datum(frame, datum):
+            raise InvalidDatum(at)
+
+
 def is_program(frame, value):
     """Whether any value is a program of the frame."""
     return are_rows(frame, value)

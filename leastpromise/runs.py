@@ -1,8 +1,7 @@
 """Runs of programs, and their traces."""
 
 from leastpromise.atoms import atoms_of_step, need_lot, steps_trace, unlike_in
-from leastpromise.errors import InvalidDatum
-from leastpromise.programs import is_datum, need_data, need_datum, need_program, unrolled_rows
+from leastpromise.programs import need_data, need_datum, need_program, need_two_data, unrolled_rows
 
 
 def run_steps(frame, program, datum):
@@ -41,9 +40,7 @@ def step_atoms(step):
 def unlike_atoms(frame, program, one, other):
     """(the atoms at which two data's steps differ up to the first unlike sides, whether there are such)."""
     need_program(frame, program)
-    for at, datum in enumerate((one, other)):
-        if not is_datum(frame, datum):
-            raise InvalidDatum(at)
+    need_two_data(frame, one, other)
     rows = unrolled_rows(program)
     return unlike_in(steps_of(frame, rows, one), steps_of(frame, rows, other))
 

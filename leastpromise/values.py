@@ -4,7 +4,7 @@ from leastpromise.atoms import ATOMS_MANY, event_atoms
 from leastpromise.errors import Refused
 from leastpromise.events import event_numbers, events_of, need_processor, read_one
 from leastpromise.kinds import is_tuple_of, wrong_in_lot
-from leastpromise.processors import numbered
+from leastpromise.processors import lasting_kinds
 from leastpromise.programs import fork_gone, need_frame
 from leastpromise.showing import shows_leak
 
@@ -106,12 +106,7 @@ def came_to(readings):
 
 def like_kinds(readings):
     """For each state a number, alike for like states."""
-    kinds = numbered([[beats for beats, _ in reading] for reading in readings])
-    many = 0
-    while many < len(set(kinds)):
-        many = len(set(kinds))
-        kinds = numbered([(kind, [kinds[later] for _, later in reading]) for kind, reading in zip(kinds, readings)])
-    return kinds
+    return lasting_kinds([[beats for beats, _ in reading] for reading in readings], readings)
 
 
 def partings(table):

@@ -145,6 +145,51 @@ class LoudestTest(unittest.TestCase):
             self.assertIs(is_loudest(frame, (guesses, rows), (6,)), expected, beats)
             self.assertIs(is_loudest_slowly(frame, (guesses, rows), (6,)), expected, beats)
 
+    def test_sides_behind_wrong_ways(self):
+        seen = []
+        for frame in ((2, 1, 0, (XOR,), 1), (2, 1, 0, (XOR,), 2), (2, 2, 0, (AND,), 2), (2, 1, 2, (AND,), 2)):
+            events = frame_events(frame)
+            guesses, steps = loudest(frame, (6,))
+            number = events.index(("fork", 1))
+            for beats in range(1, 40 if frame[1:3] == (1, 0) else 12):
+                rows = tuple(row[:number] + ((beats, 0),) + row[number + 1:] for row in steps)
+                for some in (guesses, (1,) * len(guesses), (2,) * len(guesses)):
+                    expected = is_loudest_slowly(frame, (some, rows), (6,))
+                    self.assertIs(is_loudest(frame, (some, rows), (6,)), expected, (frame, some, beats))
+                    seen.append(expected)
+        self.assertGreater(min(seen.count(True), seen.count(False)), 15)
+
+    def test_what_is_not_guessed_counts_for_nothing(self):
+        frame = (2, 1, 0, (AND,), 1)
+        row = tuple((2, 0) if event == ("fork", 1) else (1, 0) for event in frame_events(frame))
+        for guess, lot, expected in ((0, (), True), (3, (), False), (1, (), True), (2, (), False), (0, (0,), False)):
+            self.assertIs(is_loudest(frame, ((guess,), (row,)), lot), expected, (guess, lot))
+            self.assertIs(is_loudest_slowly(frame, ((guess,), (row,)), lot), expected, (guess, lot))
+        # Without a guess wrong events are not told, though traces have them.
+        for frame in ((2, 2, 0, (AND,), 1), (2, 2, 0, (XOR,), 2)):
+            for lot in ((), (6,), (0,), (0, 7)):
+                guesses, steps = loudest(frame, lot)
+                for some in itertools.product((0, 1, 2), repeat=1):
+                    told = is_loudest(frame, (some * len(guesses), steps), lot)
+                    self.assertIs(told, is_loudest_slowly(frame, (some * len(guesses), steps), lot), (frame, lot, some))
+
+    def test_wrong_ways_of_two_rows(self):
+        draw, seen = random.Random(36), []
+        for frame in ((2, 2, 0, (XOR,), 2), (2, 1, 2, (AND,), 2)):
+            events = frame_events(frame)
+            wrong = [number for number, event in enumerate(events) if event[0].startswith("wrong")]
+            for lot in ((6,), (7,), (6, 7), (9,), (8, 9), ()):
+                guesses, steps = loudest(frame, lot)
+                for _ in range(5):
+                    state, number = draw.randrange(2), draw.choice(wrong)
+                    row = list(steps[state])
+                    row[number] = (draw.randrange(1, 8), row[number][1])
+                    changed = (guesses, steps[:state] + (tuple(row),) + steps[state + 1:])
+                    expected = is_loudest_slowly(frame, changed, lot)
+                    self.assertIs(is_loudest(frame, changed, lot), expected, (frame, changed, lot))
+                    seen.append(expected)
+        self.assertGreater(min(seen.count(True), seen.count(False)), 3)
+
     def test_any_values(self):
         frame = (2, 1, 0, (), 0)
         good = (frame, loudest(frame, ()), ())

@@ -181,6 +181,17 @@ class WideTest(unittest.TestCase):
             if lot != (0, 1):
                 self.assertFalse(is_kept(frame, processor, lot))
 
+    def test_places_that_come_the_other_way_round(self):
+        # A 0 leads to state 2, a 1 to state 1; from there on just a 1 from state 1 takes another time.
+        frame = (2, 1, 0, (AND,), 0)
+        events = frame_events(frame)
+        first = tuple((1, 2 - event[2]) if event[0] == "op" else (1, 0) for event in events)
+        second = tuple((1 + event[2], 1) if event[0] == "op" else (1, 1) for event in events)
+        for rows in ((first, second, ((1, 2),) * len(events)), (first, ((1, 1),) * len(events), second)):
+            paper = wide_paper(frame, ((0, 0, 0), rows), (1,))
+            self.assertEqual((paper[0], len(paper[1])), ("broken", 2))
+            self.assertTrue(shows(frame, ((0, 0, 0), rows), (1,), paper[1]))
+
     def test_any_wide_lot(self):
         draw = random.Random(21)
         for frame in ((2, 1, 0, (AND,), 1), (2, 1, 2, (AND,), 1)):
@@ -215,6 +226,8 @@ class WideTest(unittest.TestCase):
 
         try_judge(self, lambda value: wide_holds(frame, processor, (), value), paper, expected)
         self.assertIs(wide_holds(frame, processor, (), ("kept", tuple(right))), True)
+        turned = tuple(sorted(right + [(((), 1), ((), 0))]))
+        self.assertIs(wide_holds(frame, processor, (), ("kept", turned)), False)
         cells = (2, 1, 2, (), 0)
         kept = wide_paper(cells, ((0,), (((1, 0),) * events_many(cells),)), ())
         self.assertEqual(len(kept[1]), 10)
@@ -246,11 +259,18 @@ class WideTest(unittest.TestCase):
             ([(wrong[0], (("fork", 0), wrong[1][1]))], False), ([(wrong[0], (("fork", 1), ()))], False)]
         for steps, expected in cases:
             self.assertIs(judge(("broken", tuple(steps))), expected, steps)
+        # A wrong load must fit, too: behind a store of a 0 there is no 1 at this address.
+        self.assertIs(judge(("broken", ((store, store), (wrong[1], wrong[1])))), False)
+        self.assertIs(judge(("broken", ((store, store), tuple(wrong)))), False)
+        self.assertIs(judge(("broken", ((other, other), tuple(wrong)))), False)
+        self.assertIs(judge(("broken", ((store, other), tuple(wrong)))), False)
+        self.assertIs(judge(("broken", ((other, store), tuple(wrong)))), True)
+        self.assertIs(judge(("broken", ((store, other), tuple(wrong[::-1])))), True)
         deep = [(("fork", 1), (("wrong load", at, 1),) * 2) for at in (0, 1)]
         self.assertIs(judge(("broken", (tuple(deep),))), False)
         for value in (
                 ("broken", [(near, far)]), ("broken", ([near, far],)), ("broken", ((near, far, near),)), ("broken", (near, far)),
-                ("kept", ((near, far),)), ("broken", ((near, far),), ()), ("broken",), ("broken", ((near, None),)),
+                ("kept", ((near, far),)), ("way", ((near, far),)), ("broken", ((near, far),), ()), ("broken",), ("broken", ((near, None),)),
                 ("broken", ((near, (("load", True, 1), ())),)), ("broken", ((near, (["load", 1, 1], ())),))):
             self.assertIs(judge(value), False, value)
         self.assertIs(wide_holds(frame, processor, [2], ("broken", ((near, far),))), False)

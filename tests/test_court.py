@@ -203,6 +203,32 @@ class CourtTest(unittest.TestCase):
         late = [(1, 1)] * len(events)
         self.check(frame, ((3, 3), (tuple(row), tuple(late))), ())
         self.check(frame[:4] + (2,), processor, ())
+        # A further wrong event takes one less from there, and leads back.
+        back = [(1, 0) if event[0].startswith("wrong") or event[0] == "fork" else (2, 0) for event in events]
+        processor = ((3, 3), (tuple(row), tuple(back)))
+        self.assertTrue(is_kept(frame[:4] + (2,), processor, ()))
+        self.check(frame[:4] + (2,), processor, ())
+
+    def test_wrong_ways_of_two_rows(self):
+        draw = random.Random(20)
+        words = []
+        for frame in ((2, 2, 0, (XOR,), 2), (2, 1, 2, (AND,), 2), (2, 2, 0, (AND,), 2)):
+            events = frame_events(frame)
+            for _ in range(9):
+                guesses, rows = kind_processor(draw, events, 2, 0.3)
+                rows = tuple(tuple(
+                    told if event[0].startswith("wrong") else (1, 0) for event, told in zip(events, row)) for row in rows)
+                words.append(self.check(frame, ((3, 3), rows), draw.choice(((), (), (6,), (7,), (6, 8), (8,)))))
+        self.assertGreater(min(words.count("kept"), words.count("broken")), 4)
+
+    def test_data_that_wrong_rows_changed(self):
+        # The second wrong event of a way reads what the first one left: just there data may be unlike, or alike.
+        events = frame_events((2, 2, 0, (XOR,), 2))
+        first = [(1, 1) if event == ("wrong op", 0, 1, 1) else (1, 0) for event in events]
+        second = [(2, 0) if event[:3] == ("wrong op", 0, 1) else (1, 0) for event in events]
+        for rows in ((first, second), (second, first)):
+            for lot in ((), (6,), (7,), (6, 7)):
+                self.check((2, 2, 0, (XOR,), 2), ((3, 3), tuple(map(tuple, rows))), lot)
 
     def test_caches_of_seven_states(self):
         frame = (2, 2, 2, (AND,), 1)
@@ -257,6 +283,9 @@ class CourtJudgeTest(unittest.TestCase):
             self.assertIs(court_holds(SMALL, processor, (), ("kept", tuple(sorted(least + (mixed,))))), True)
             self.assertIs(court_holds(SMALL, processor, (), ("kept", (own,))), False)
             self.assertIs(court_holds(SMALL, processor, (), ("kept", (own,) + least)), False)
+            # No pair is of one standing twice, or has the greater one first.
+            for wrong in (((0,), 0), ((0,), 0)), (((1,), 1), ((1,), 1)), (((1,), 0), ((0,), 0)), (((1,), 1), ((0,), 1)):
+                self.assertIs(court_holds(SMALL, processor, (), ("kept", tuple(sorted(least + (wrong,))))), False)
 
     def test_changed_kept_papers(self):
         frame = (2, 1, 0, (AND,), 1)

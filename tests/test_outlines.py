@@ -118,6 +118,9 @@ class ComparedTest(unittest.TestCase):
             self.assertEqual(told(4, outline), (InvalidProcessor, at), outline)
             self.assertEqual(outcome(compared_atoms, good[2], 0, outline), (InvalidProcessor, at), outline)
         self.assertEqual(told(4, ((0,) * 60, (row,) * 60))[0], "told")
+        four = ((0,), (((1, 0),) * 15,))
+        self.assertEqual(len(compared(2, 1, ((0, 0, 1),) * 4, 0, four)[0][3]), 4)
+        self.assertEqual(compared_atoms(((0, 0, 1),) * 4, 0, four), ())
         # With wrong ways an outline has as many outcomes more, without them it must not have them.
         self.assertEqual(told(3, 1), (InvalidProcessor, 1))
         self.assertEqual(told(4, ((0,), (((1, 0),) * 9,))), (InvalidProcessor, 1))

@@ -228,6 +228,13 @@ class RuleTest(unittest.TestCase):
                 self.check(frame, rows, others, lot)
         self.assertEqual(rule_paper(frame, (fence,), (), (6,))[0], "wrong")
         self.assertEqual(rule_paper(frame, (), (fence,), (6,))[0], "keeps")
+        for other, still in ((XOR, ("op", 0, 1, 1, 0)), (AND, ("op", 0, 1, 1, 1))):
+            changed = frame[:3] + ((other,), 2)
+            rows = (still, still) if other == XOR else (still,)
+            for lot in ((), (6,), (7,), (6, 7)):
+                self.check(changed, rows, (), lot)
+                self.check(changed, (), rows, lot)
+                self.check(changed, rows + (fence,), (fence,), lot)
         # Where a row less is put, wrong ways read one further, which may show the other register.
         for many, fewer, lot, word in ((2, 1, (6,), "wrong"), (1, 2, (6,), "keeps"), (2, 1, (0,), "keeps"), (3, 2, (6,), "keeps")):
             self.assertEqual(self.check(frame, (clear,) * many, (clear,) * fewer, lot), word)
@@ -366,6 +373,43 @@ class RuleJudgeTest(unittest.TestCase):
                         seen.append(expected)
                     self.assertIs(rule_holds(frame, rows, others, lot, ("keeps", lots)), paper[0] == "keeps")
         self.assertGreater(min(seen.count(True), seen.count(False)), 30)
+
+    def test_lots_of_wrong_pairs(self):
+        frame = (2, 2, 0, (XOR,), 1)
+        fence = ("fence",)
+        pairs = slow_lots(frame, (6,))[0]
+        judge = lambda told: rule_holds(frame, (fence, fence), (fence,), (6,), ("keeps", (told,)))
+        self.assertIs(judge(pairs), True)
+        for more, expected in (
+                (((0, 0), (1, 1)), True), (((0, 0), (0, 0)), False), (((1, 1), (0, 0)), False), (((0, 1), (0, 0)), False),
+                (pairs[0], False)):
+            self.assertIs(judge(tuple(sorted(pairs + (more,)))), expected, more)
+        self.assertIs(judge(pairs[::-1]), False)
+        self.assertIs(judge(pairs[1:] + pairs[:1]), False)
+
+    def test_other_words(self):
+        frame = (2, 2, 0, (XOR,), 1)
+        op = ("op", 0, 1, 1, 0)
+        args = (frame, (("fence",),), (op, op), (0, 6))
+        right, wrong = ("right", (0, 0), (0, 1)), ("wrong", 0, (), (), (0, 0), (0, 1))
+        self.assertIs(rule_holds(*args, right), True)
+        self.assertIs(rule_holds(*args, wrong), True)
+        for word in ("wrong", "keeps", "", None, 0, "rights"):
+            self.assertIs(rule_holds(*args, (word,) + right[1:]), False, word)
+        for word in ("right", "keeps", "", None, 0):
+            self.assertIs(rule_holds(*args, (word,) + wrong[1:]), False, word)
+
+    def test_deep_wrong_ways_with_cells(self):
+        # Stores end wrong ways: neither they nor what they leave is come to there.
+        frame = (2, 1, 2, (AND,), 2)
+        op, store, fence = ("op", 0, 0, 0, 0), ("store", 0, 0), ("fence",)
+        for rows, others in (((op,), ()), ((fence,), ()), ((), (fence,)), ((store, store), (store,)), ((fence, op), (op, op))):
+            for lot in ((), (6,), (8,), (9,), (6, 9)):
+                paper = rule_paper(frame, rows, others, lot)
+                self.assertEqual(paper[0], slow_word(frame, rows, others, lot))
+                self.assertIs(rule_holds(frame, rows, others, lot, paper), True)
+                if paper[0] == "keeps":
+                    self.assertEqual(paper[1], slow_lots(frame, lot))
 
     def test_changed_papers(self):
         frame = (2, 2, 0, (XOR,), 1)
