@@ -83,6 +83,15 @@ def need_readings(many, value):
             raise InvalidProcessor(state + 1)
 
 
+def is_processor(frame, value):
+    """Whether any value is a processor of a right frame."""
+    try:
+        need_readings(len(events_of(frame)), value)
+    except InvalidProcessor:
+        return False
+    return True
+
+
 def need_state(frame, processor, state):
     need_processor(frame, processor)
     if not is_below(state, len(processor[0])):

@@ -25,13 +25,13 @@ def leak_within(frame, processor, lot):
 def least_leaks(frame, processor):
     """All leaks without a lesser one within."""
     need_processor(frame, processor)
-    return lots_in_order([leak[0] for leak in Court(frame, processor).both()[0]])
+    return Court(frame, processor).lists()[0]
 
 
 def least_promises(frame, processor):
     """All promises that are kept, and no lesser one within them is."""
     need_processor(frame, processor)
-    return Court(frame, processor).both()[1]
+    return Court(frame, processor).lists()[1]
 
 
 def both_paper(frame, processor):
@@ -113,6 +113,11 @@ class Court:
             for atom in found[0] if len(found[0]) > 1 else ():
                 lesser = lesser or self.told_apart(without([other for other in found[0] if other != atom]))
         return found
+
+    def lists(self):
+        """(all least leaks, all least promises)."""
+        leaks, promises = self.both()
+        return lots_in_order([leak[0] for leak in leaks]), promises
 
     def both(self):
         """([(leak, program, one, other) for each least leak], the least promises)."""

@@ -41,6 +41,11 @@ class Pairs:
 
     def leads(self, pair):
         """The pairs behind each row at which both agree, the lesser first; None if for one the beats are unlike."""
+        found = self.behind(pair)
+        return None if found is None else self.counting([ordered(one, other) for one, other in found])
+
+    def behind(self, pair):
+        """The standings of both, in their order, behind each row at which both agree; None if beats are unlike."""
         (one, state), (other, further) = [divmod(number, self.many) for number in pair]
         found = []
         for move in self.plain_moves(one, other):
@@ -48,14 +53,14 @@ class Pairs:
             more, last = self.steps[further][move[2]]
             if beats != more:
                 return None
-            found.append(ordered(move[3] * self.many + later, move[4] * self.many + last))
+            found.append((move[3] * self.many + later, move[4] * self.many + last))
         for side, _ in self.sides(one, other):
             ends = self.fork_ends(side, one, other, state, further)
             if ends is None:
                 return None
             for later, last in ends:
-                found.append(ordered(self.standing(one, later), self.standing(other, last)))
-        return self.counting(found)
+                found.append((self.standing(one, later), self.standing(other, last)))
+        return found
 
     def are_closed(self, lot):
         """Whether the pairs have those at the begin, and with each those that it leads to, without unlike beats."""
@@ -139,7 +144,12 @@ class Pairs:
 
 def spread(pairs):
     """(for each pair come to the one ahead, in the order of their coming; one with unlike beats, or None)."""
-    waiting, at = pairs.at_begin(), 0
+    return spread_from(pairs, pairs.at_begin())
+
+
+def spread_from(pairs, begins):
+    """The same from these pairs on."""
+    waiting, at = list(begins), 0
     came = {pair: None for pair in waiting}
     while at < len(waiting):
         later = pairs.leads(waiting[at])

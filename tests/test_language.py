@@ -15,7 +15,7 @@ METHODS = set(
     "split splitlines startswith strip update upper values zfill bit_length add discard".split())
 LIBRARY = {"heapq", "math", "itertools", "collections"}
 BARRED = (
-    ast.AsyncFunctionDef, ast.Global, ast.Div, ast.AsyncFor, ast.AsyncWith, ast.Await, ast.Try, ast.Yield)
+    ast.AsyncFunctionDef, ast.Global, ast.Div, ast.AsyncFor, ast.AsyncWith, ast.Await, ast.Yield)
 KEYWORDS = {"key", "reverse", "default", "start", "strict"}
 
 
@@ -144,6 +144,33 @@ class LanguageTest(unittest.TestCase):
                     self.assertNotIsInstance(node.value, (float, complex), name)
                 if isinstance(node, ast.Pow):
                     self.fail(name)
+
+    def test_own_errors_alone_are_caught(self):
+        own = set(top_names(trees()["errors"]))
+        for name, tree in trees().items():
+            for node in ast.walk(tree):
+                if isinstance(node, ast.Try):
+                    self.assertFalse(node.finalbody, name)
+                    for handler in node.handlers:
+                        self.assertIsInstance(handler.type, ast.Name, name)
+                        self.assertIn(handler.type.id, own, name)
+
+    def test_names_of_methods_are_none_of_attributes(self):
+        stored = set()
+        for tree in trees().values():
+            for node in ast.walk(tree):
+                if isinstance(node, ast.Attribute) and isinstance(node.ctx, ast.Store):
+                    stored.add(node.attr)
+        self.assertFalse(stored & own_methods())
+
+    def test_ranges_are_not_kept(self):
+        for name, tree in trees().items():
+            for node in ast.walk(tree):
+                if isinstance(node, ast.Return) or isinstance(node, ast.Assign) and not isinstance(
+                        node.targets[0], ast.Name):
+                    called = node.value.func if isinstance(node.value, ast.Call) else None
+                    if isinstance(called, ast.Name):
+                        self.assertNotIn(called.id, ("range", "zip", "enumerate", "reversed"), name)
 
     def test_module_level_is_plain(self):
         plain = (ast.FunctionDef, ast.ClassDef, ast.ImportFrom, ast.Assign, ast.Expr)
