@@ -57,13 +57,18 @@ def put_beside(frame, one, other):
     """The processor of pairs of states, with the one's guess and the sum of both's beats."""
     need_processor(frame, one)
     need_processor(frame, other)
+    return paired_processor(one, other, 1)
+
+
+def paired_processor(one, other, times):
+    """The processor of pairs of states, with the one's guess, and the one's beats so many times beside the other's."""
     guesses, readings, waiting = {}, {}, [(0, 0)]
     while waiting:
         pair = waiting.pop()
         if pair not in readings:
             guesses[pair] = one[0][pair[0]]
             readings[pair] = [
-                (beats + more, (later, last))
+                (beats * times + more, (later, last))
                 for (beats, later), (more, last) in zip(one[1][pair[0]], other[1][pair[1]])]
             if len(readings) > MOST_STATES:
                 raise Refused("states")

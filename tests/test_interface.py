@@ -70,7 +70,58 @@ PARAMETERS = {
     "places": {
         "loud_sites": "frame program secrets", "hidden_spots": "frame processor program",
         "shielded_spots": "frame processor program", "covered_lots": "frame processor program"},
+    "reading": {"read_frame": "text", "read_program": "frame text", "read_processor": "frame text"},
+    "several": {
+        "ever_paper": "frame processor lot", "is_kept_ever": "frame processor lot",
+        "ever_holds": "frame processor lot value", "late_processor": "", "secret_classes": "frame program lot deals",
+        "telling_inputs": "frame program lot deals", "asks_paper": "frame program lot deals",
+        "asks_hold": "frame program lot deals value", "shares_paper": "frame program lot deals",
+        "shares_hold": "frame program lot deals value", "sum_deals": "frame many"},
+    "watchers": {
+        "need_watcher": "value", "told_by": "watcher view", "seen_leaks": "frame processor watcher",
+        "seen_within": "frame processor watcher lot", "machine_paper": "watcher most",
+        "machine_holds": "watcher most value", "blind_processor": "watcher most"},
+    "amounts": {
+        "shown_processor": "frame program lot parts", "most_views": "frame program data lot",
+        "looks_alone": "frame processor lot", "single_views": "frame program data lot",
+        "single_processor": "frame program data lot", "hidden_guess": ""},
+    "depths": {
+        "promise_depth": "frame processor lot", "depth_paper": "frame processor lot",
+        "depth_holds": "frame processor lot value", "atom_depths": "frame processor",
+        "least_at": "frame processor deep", "latest_processor": "frame states"},
+    "probes": {
+        "probe_leaks": "frame processor", "probe_within": "frame processor lot", "order_paper": "frame one other",
+        "order_holds": "frame one other value", "views_paper": "frame one other"},
+    "sides": {
+        "whole_view": "frame guesser parts program datum", "beside_guesser": "frame guesser part",
+        "whole_paper": "frame guesser parts lot", "whole_holds": "frame guesser parts lot value",
+        "whole_leaks": "frame guesser parts", "is_guarded": "frame guesser lot", "sure_paper": "frame part lot",
+        "guarded_paper": "frame part lot", "sure_holds": "frame part lot value", "guarded_holds": "frame part lot value",
+        "partner": "frame part", "stands_paper": "frame part other", "stands_hold": "frame part other value"},
+    "fences": {
+        "deep_run": "frame deep program datum", "cut_program": "frame program many",
+        "cut_depth": "frame processor lot", "fence_choices": "frame program lot data",
+        "put_fences": "frame program choices"},
+    "looks": {"look_holds": "value", "make_look": "word question", "wrong_looks": "values"},
+    "bench": {"bench_behind": "frame processor program data deeds"},
 }
+
+# For each class its module, what it is made of, its methods with theirs, and its attributes.
+CLASSES = {
+    "Bench": ("bench", "frame processor program data", {
+        "do_deed": "deed", "leaks": "", "promises": "", "views": "", "greatest": "", "verdict": ""},
+        "frame processor program data deeds anew"),
+    "Live": ("live", "frame processor program data", {
+        "do_deed": "deed", "undo_deed": "", "redo_deed": "", "verdict_then": "number", "verdict_if": "number deed",
+        "compiled_now": "lot"}, "bench deeds"),
+    "Desk": ("desk", "", {"say": "command"}, "live"),
+}
+SMALL = (2, 1, 0, (), 0)
+STILL = ((0,), (((1, 0),) * 3,))
+
+
+def parameters_of(function):
+    return " ".join(inspect.signature(function).parameters)
 
 
 class InterfaceTest(unittest.TestCase):
@@ -80,7 +131,20 @@ class InterfaceTest(unittest.TestCase):
             for word, parameters in functions.items():
                 function = getattr(module, word)
                 self.assertEqual(function.__module__, module.__name__, word)
-                self.assertEqual(" ".join(inspect.signature(function).parameters), parameters, word)
+                self.assertEqual(parameters_of(function), parameters, word)
+
+    def test_classes(self):
+        for word, (name, made_of, methods, attributes) in CLASSES.items():
+            own = getattr(importlib.import_module("leastpromise." + name), word)
+            self.assertEqual((own.__module__, own.__bases__), ("leastpromise." + name, (object,)))
+            self.assertEqual(parameters_of(own), made_of)
+            for method, parameters in methods.items():
+                self.assertIn(method, vars(own), word)
+                self.assertEqual(parameters_of(vars(own)[method]), ("self " + parameters).strip(), method)
+            thing = own(*([SMALL, STILL, (), []] if made_of else []))
+            self.assertLessEqual(set(attributes.split(" ")), set(vars(thing)))
+            for gone_through in (iter, len, list, lambda thing: thing[0]):
+                self.assertRaises(TypeError, gone_through, thing)
 
 
 if __name__ == "__main__":
