@@ -14,7 +14,8 @@ from leastpromise.events import frame_events, need_processor, view_of
 from leastpromise.programs import need_frame, need_program
 from leastpromise.runs import run_steps, trace_of
 from tests.samples import (
-    AND, ANY, HUGE, SUM3, XOR, data_of, is_tupled, kind_processor, outcome, some_programs, try_order, try_wrong, with_part)
+    AND, ANY, HUGE, SUM3, XOR, data_of, is_tupled, kind_processor, outcome, some_programs, try_order, try_wrong,
+    with_part)
 
 FRAMES = [
     (2, 1, 0, (AND,), 1), (2, 2, 0, (XOR,), 1), (2, 2, 0, (AND, XOR), 2), (2, 1, 2, (AND,), 1), (2, 2, 2, (XOR,), 1),
@@ -123,13 +124,15 @@ class ShownTest(unittest.TestCase):
             parts = [[datum for datum, owner in zip(data, owners) if owner == part] for part in range(4)]
             parts = [part for part in parts if part]
             self.check(FRAME, FORK, (6,), parts, shown_processor(FRAME, FORK, [6], parts))
-        self.check(FRAME, FORK, (), [[data[0], data[1]], [data[2]]], shown_processor(FRAME, FORK, (), ((data[0], data[1]), (data[2],))))
+        self.check(FRAME, FORK, (), [[data[0], data[1]], [data[2]]],
+            shown_processor(FRAME, FORK, (), ((data[0], data[1]), (data[2],))))
 
     def test_what_is_refused(self):
         data = [(0, 0), (0, 1), (1, 0), (1, 1)]
         self.assertEqual(outcome(shown_processor, FRAME, FORK, (), [[data[0]], [data[1]]]), (Refused, "trace"))
         self.assertEqual(outcome(shown_processor, FRAME, FORK, (0, 1), [[data[0]], data[2:], [data[1]]])[0], "told")
-        for fences, many, expected in ((59, 1, "told"), (60, 1, Refused), (29, 2, "told"), (30, 2, Refused), (14, 4, "told"), (15, 4, Refused)):
+        for fences, many, expected in ((59, 1, "told"), (60, 1, Refused), (29, 2, "told"), (30, 2, Refused),
+                (14, 4, "told"), (15, 4, Refused)):
             told = outcome(shown_processor, FRAME, (("fence",),) * fences, (), [data[:many]])
             self.assertEqual(told[0], expected, (fences, many))
             if expected == "told":
@@ -141,7 +144,8 @@ class ShownTest(unittest.TestCase):
         self.assertEqual(outcome(shown_processor, FRAME, wrong[:15], (), [[data[0]], [data[3]]]), (Refused, "states"))
         self.assertEqual(outcome(shown_processor, FRAME, wrong[:14], (), [[data[0]], [data[3]]])[0], "told")
         # Unlike parts are told ahead of too many states.
-        self.assertEqual(outcome(shown_processor, FRAME, (("fence",),) * 60, (), [[data[0]], [data[1]]]), (Refused, "trace"))
+        self.assertEqual(outcome(shown_processor, FRAME, (("fence",),) * 60, (), [[data[0]], [data[1]]]),
+            (Refused, "trace"))
 
     def test_no_parts_and_the_empty_program(self):
         for program, parts in (((), []), (FORK, ()), ((), [[(0, 0), (1, 1)]]), ((("loop", 0, FORK),), [[(0, 0)]])):
@@ -151,16 +155,21 @@ class ShownTest(unittest.TestCase):
     def test_wrong_parts(self):
         good = [[(0, 0)], [(1, 0), (1, 1)]]
         for parts, at in (
-                (None, -1), (0, -1), ("", -1), ([[]], 0), ([[(0, 0)], []], 1), ([[(0, 0)], None], 1), ([[(0, 0)], [(0, 0)]], 1),
-                ([[(0, 0), (0, 0)]], 0), ([[(0, 0)], [(1, 0), (0, 2)]], 1), ([[[0, 0]]], 0), ([[(0, False)]], 0), (((0, 0),), 0),
+                (None, -1), (0, -1), ("", -1), ([[]], 0), ([[(0, 0)], []], 1), ([[(0, 0)], None], 1),
+                ([[(0, 0)], [(0, 0)]], 1),
+                ([[(0, 0), (0, 0)]], 0), ([[(0, 0)], [(1, 0), (0, 2)]], 1), ([[[0, 0]]], 0), ([[(0, False)]], 0),
+                (((0, 0),), 0),
                 ([[(0, 0)], [(1, 1)], [(0, 1), (0, 0)], 3], 2), ([(0, 0)], 0), ([[(0,)]], 0), ([[HUGE]], 0)):
             self.assertEqual(outcome(shown_processor, FRAME, FORK, (), parts), (InvalidParts, at), parts)
-        self.assertEqual(shown_processor(FRAME, FORK, (6,), good), shown_processor(FRAME, FORK, [6], tuple(map(tuple, good))))
+        self.assertEqual(shown_processor(FRAME, FORK, (6,), good),
+            shown_processor(FRAME, FORK, [6], tuple(map(tuple, good))))
         for value in ANY:
             self.assertIn(outcome(shown_processor, FRAME, FORK, (6,), value)[0], (InvalidParts, "told"), value)
-            self.assertIn(outcome(shown_processor, FRAME, FORK, (6,), [[(0, 0)], value])[0], (InvalidParts, "told"), value)
+            self.assertIn(outcome(shown_processor, FRAME, FORK, (6,), [[(0, 0)], value])[0], (InvalidParts, "told"),
+                value)
         try_order(self, shown_processor, (FRAME, FORK, (6,), good), {
-            0: (None, (InvalidFrame, -1)), 1: ((0,), (InvalidProgram, 0)), 2: ([3, 3], (InvalidLot, 1)), 3: ([[]], (InvalidParts, 0))})
+            0: (None, (InvalidFrame, -1)), 1: ((0,), (InvalidProgram, 0)), 2: ([3, 3], (InvalidLot, 1)),
+            3: ([[]], (InvalidParts, 0))})
 
 
 class MostTest(unittest.TestCase):
@@ -198,7 +207,8 @@ class SingleTest(unittest.TestCase):
             draw = random.Random(f"37 {frame}")
             for lot in LOTS:
                 for processor in (
-                        kind_processor(draw, frame_events(frame), 2, 0.2), loudest(frame, lot), lonely_processor(draw, frame, lot, 2, 4)):
+                        kind_processor(draw, frame_events(frame), 2, 0.2), loudest(frame, lot),
+                        lonely_processor(draw, frame, lot, 2, 4)):
                     expected = slow_looks_alone(frame, processor, lot)
                     self.assertIs(looks_alone(frame, processor, lot), expected)
                     self.assertIs(looks_alone(frame, processor, list(lot)), expected)
@@ -211,7 +221,8 @@ class SingleTest(unittest.TestCase):
         frame = (2, 1, 0, (AND,), 0)
         row = ((1, 0),) * 7
         for number, read, lot, expected in (
-                (2, (2, 0), (), False), (2, (2, 0), (0,), False), (2, (2, 0), (0, 1), True), (3, (1, 1), (1,), False), (4, (5, 1), (), True),
+                (2, (2, 0), (), False), (2, (2, 0), (0,), False), (2, (2, 0), (0, 1), True), (3, (1, 1), (1,), False),
+                (4, (5, 1), (), True),
                 (5, (5, 1), (), True), (2, (1, 1), (0, 1), True), (0, (1, 1), (0,), False)):
             processor = ((0, 3), (with_part(row, number, read), row))
             self.assertIs(looks_alone(frame, processor, lot), expected, (number, read, lot))
@@ -258,7 +269,8 @@ class SingleTest(unittest.TestCase):
         op = ("op", 1, 0, 1, 0)
         inner = (("fork", 1, (op,), (("op", 0, 1, 0, 0),)),)
         for program in (
-                (("fork", 0, inner, inner),), (("fork", 0, (op,) + inner, WRONG + inner),), FORK + inner + FORK, (("loop", 3, FORK + (op,)),),
+                (("fork", 0, inner, inner),), (("fork", 0, (op,) + inner, WRONG + inner),), FORK + inner + FORK,
+                (("loop", 3, FORK + (op,)),),
                 (("fork", 0, (), (op,)), ("fork", 1, (op,), ()))):
             for lot in ((6,), (7,), (6, 7), (), (0,), (0, 6)):
                 data = data_of(frame)

@@ -16,12 +16,14 @@ from leastpromise.programs import need_program, unrolled
 from leastpromise.runs import datum_behind, run_steps, trace_of
 from leastpromise.traces import promise_on
 from tests.samples import (
-    AND, ANY, HUGE, XOR, data_of, is_tupled, kind_processor, nested, outcome, some_programs, some_row, try_order, try_wrong,
+    AND, ANY, HUGE, XOR, data_of, is_tupled, kind_processor, nested, outcome, some_programs, some_row, try_order,
+    try_wrong,
     with_part)
 
 SMALL = (2, 1, 0, (), 0)
 STILL = ((0,), (((1, 0),) * 3,))
-FRAMES = [(2, 1, 0, (AND,), 1), (2, 2, 0, (XOR,), 1), (2, 2, 0, (AND, XOR), 2), (2, 1, 2, (AND,), 1), (2, 1, 2, (), 0), (2, 1, 0, (), 0)]
+FRAMES = [(2, 1, 0, (AND,), 1), (2, 2, 0, (XOR,), 1), (2, 2, 0, (AND, XOR), 2), (2, 1, 2, (AND,), 1), (2, 1, 2, (), 0),
+    (2, 1, 0, (), 0)]
 
 
 def some_bench(draw, frame):
@@ -67,7 +69,8 @@ def slow_told(frame, processor, program, data):
         verdict = ("quiet", greatest)
     elif len(set(views)) > 1:
         verdict = next(
-            ("loud", data[one], data[other]) for one, other in itertools.combinations(range(len(data)), 2) if views[one] != views[other])
+            ("loud", data[one], data[other]) for one, other in itertools.combinations(range(len(data)),
+            2) if views[one] != views[other])
     return least_leaks(frame, processor), least_promises(frame, processor), views, greatest, verdict
 
 
@@ -182,15 +185,21 @@ class BenchTest(unittest.TestCase):
         bench = Bench(frame, ((0,), (row,)), (op,), [(1,), (0,)])
         for deed, processor, program, data, anew in (
                 (("beats", 0, 3, 2), ((0,), (with_part(row, 3, (2, 0)),)), (op,), ((1,), (0,)), (1, 0)),
-                (["beats", 0, 3, 1], ((0,), (row,)), (op,), ((1,), (0,)), (1, 0)), (["beats", 0, 3, 1], ((0,), (row,)), (op,), ((1,), (0,)), (1, 0)),
+                (["beats", 0, 3, 1], ((0,), (row,)), (op,), ((1,), (0,)), (1, 0)),
+                (["beats", 0, 3, 1], ((0,), (row,)), (op,), ((1,), (0,)), (1, 0)),
                 (("state",), ((0, 0), (row, ((1, 1),) * 7)), (op,), ((1,), (0,)), (1, 0)),
                 (("next", 0, 6, 1), ((0, 0), (row[:6] + ((1, 1),), ((1, 1),) * 7)), (op,), ((1,), (0,)), (1, 0)),
                 (("guess", 1, 3), ((0, 3), (row[:6] + ((1, 1),), ((1, 1),) * 7)), (op,), ((1,), (0,)), (1, 0)),
-                (("put", 0, fence), None, (fence, op), ((1,), (0,)), (0, 2)), (("put", 2, fence), None, (fence, op, fence), ((1,), (0,)), (0, 2)),
-                (("strike", 1), None, (fence, fence), ((1,), (0,)), (0, 2)), (["data", [(0,), (1,)]], None, (fence, fence), ((0,), (1,)), (0, 0)),
-                (("data", ()), None, (fence, fence), (), (0, 0)), (("put", 1, ("loop", 2, (op,))), None, (fence, ("loop", 2, (op,)), fence), (), (0, 0)),
-                (["fence", []], None, (fence, op, op, fence), (), (0, 0)), (("data", ((1,),)), None, (fence, op, op, fence), ((1,),), (0, 1)),
-                (("data", [(0,), (1,)]), None, (fence, op, op, fence), ((0,), (1,)), (0, 1)), (("fence", [1]), InvalidDeed, None, None, None)):
+                (("put", 0, fence), None, (fence, op), ((1,), (0,)), (0, 2)),
+                (("put", 2, fence), None, (fence, op, fence), ((1,), (0,)), (0, 2)),
+                (("strike", 1), None, (fence, fence), ((1,), (0,)), (0, 2)),
+                (["data", [(0,), (1,)]], None, (fence, fence), ((0,), (1,)), (0, 0)),
+                (("data", ()), None, (fence, fence), (), (0, 0)),
+                (("put", 1, ("loop", 2, (op,))), None, (fence, ("loop", 2, (op,)), fence), (), (0, 0)),
+                (["fence", []], None, (fence, op, op, fence), (), (0, 0)),
+                (("data", ((1,),)), None, (fence, op, op, fence), ((1,),), (0, 1)),
+                (("data", [(0,), (1,)]), None, (fence, op, op, fence), ((0,), (1,)), (0, 1)),
+                (("fence", [1]), InvalidDeed, None, None, None)):
             if processor is InvalidDeed:
                 self.assertEqual(outcome(bench.do_deed, deed), (Refused, "right"))
                 continue
@@ -208,18 +217,26 @@ class BenchTest(unittest.TestCase):
         bench = Bench(frame, ((0, 0), (((1, 0),) * many,) * 2), program, [(0, 0, 0)])
         before = things_of(bench)
         for deed in ANY + [
-                ("beats", 2, 0, 1), ("beats", -1, 0, 1), ("beats", 0, many, 1), ("beats", 0, 0, 0), ("beats", 0, 0, -1), ("beats", 0, 0, True), ("beats", True, 0, 1),
-                ("beats", 0, False, 1), ("beats", 0, 0), ("beats", 0, 0, 1, 1), ("beats", 0, 0, "1"), ("beats",), ("next", 0, 0, 2), ("next", 0, many, 0), ("next", 0, 0, None),
-                ("next", 2, 0, 0), ("next", 0, 0, -1), ("next", 0, 0, HUGE), ("guess", 0, 4), ("guess", 2, 0), ("guess", 0, True), ("guess", 0), ("state", 0), ("states",), ("state", ()),
-                ("put", 3, ("fence",)), ("put", -1, ("fence",)), ("put", 0, ["fence"]), ("put", 0, ("fence", 0)), ("put", 0, ("op", 0, 1, 0, 0)), ("put", 0), ("put", 0, ("loop", 5, ())),
-                ("put", 0, ("loop", 1, [])), ("put", False, ("fence",)), ("put", 0, ("fork", 0, (), (0,))), ("put", 0, ()), ("put", 0, None), ("strike", 2), ("strike", -1),
-                ("strike", True), ("strike",), ("strike", None), ("strike", 0, 0), ("fence", None), ("fence", (3, 3)), ("fence", (10,)), ("fence", 6), ("fence",), ("fence", (), ()), ("fence", "6"),
-                ("fence", (True,)), ("data", None), ("data", ((0, 0, 0), (0, 0, 0))), ("data", ((0, 0),)), ("data", ([0, 0, 0],)), ("data", (0, 0, 0)), ("data",), ("data", "", ""),
-                ("data", ((0, 0, 2),)), ("data", ((0, 0, False),)), (("beats",), 0, 0, 1), (None, 0), ["undo"], "state", "beats", ("BEATS", 0, 0, 1), {"state": 1}, bench, nested(12),
-                ("put", 0, nested(11)), ("fence", nested(11)), ("data", nested(11)), ("beats", 0, 0, nested(11)), ("beats", HUGE, HUGE, HUGE), (bench,), ("put", 0, bench)]:
-            if deed in (("fence",), ["fence"]) or not isinstance(deed, (list, tuple)) or len(deed) == 0 or deed[0] not in ("state",) or len(deed) > 1:
-                self.assertEqual(outcome(bench.do_deed, deed), (InvalidDeed, -1), deed)
-                self.assertEqual(outcome(bench_behind, *before, [deed]), (InvalidDeed, 0), deed)
+                ("beats", 2, 0, 1), ("beats", -1, 0, 1), ("beats", 0, many, 1), ("beats", 0, 0, 0), ("beats", 0, 0, -1),
+                ("beats", 0, 0, True), ("beats", True, 0, 1),
+                ("beats", 0, False, 1), ("beats", 0, 0), ("beats", 0, 0, 1, 1), ("beats", 0, 0, "1"), ("beats",),
+                ("next", 0, 0, 2), ("next", 0, many, 0), ("next", 0, 0, None),
+                ("next", 2, 0, 0), ("next", 0, 0, -1), ("next", 0, 0, HUGE), ("guess", 0, 4), ("guess", 2, 0),
+                ("guess", 0, True), ("guess", 0), ("state", 0), ("states",), ("state", ()),
+                ("put", 3, ("fence",)), ("put", -1, ("fence",)), ("put", 0, ["fence"]), ("put", 0, ("fence", 0)),
+                ("put", 0, ("op", 0, 1, 0, 0)), ("put", 0), ("put", 0, ("loop", 5, ())),
+                ("put", 0, ("loop", 1, [])), ("put", False, ("fence",)), ("put", 0, ("fork", 0, (), (0,))),
+                ("put", 0, ()), ("put", 0, None), ("strike", 2), ("strike", -1),
+                ("strike", True), ("strike",), ("strike", None), ("strike", 0, 0), ("fence", None), ("fence", (3, 3)),
+                ("fence", (10,)), ("fence", 6), ("fence",), ("fence", (), ()), ("fence", "6"),
+                ("fence", (True,)), ("data", None), ("data", ((0, 0, 0), (0, 0, 0))), ("data", ((0, 0),)),
+                ("data", ([0, 0, 0],)), ("data", (0, 0, 0)), ("data",), ("data", "", ""),
+                ("data", ((0, 0, 2),)), ("data", ((0, 0, False),)), (("beats",), 0, 0, 1), (None, 0), ["undo"], "state",
+                "beats", ("BEATS", 0, 0, 1), {"state": 1}, bench, nested(12),
+                ("put", 0, nested(11)), ("fence", nested(11)), ("data", nested(11)), ("beats", 0, 0, nested(11)),
+                ("beats", HUGE, HUGE, HUGE), (bench,), ("put", 0, bench)]:
+            self.assertEqual(outcome(bench.do_deed, deed), (InvalidDeed, -1), deed)
+            self.assertEqual(outcome(bench_behind, *before, [deed]), (InvalidDeed, 0), deed)
         self.assertEqual((things_of(bench), bench.deeds, bench.anew), (before, (), (1, 1)))
 
     def test_sixty_states(self):
@@ -230,7 +247,8 @@ class BenchTest(unittest.TestCase):
         self.assertEqual(outcome(bench.do_deed, ("state", 1)), (InvalidDeed, -1))
         self.assertEqual((len(bench.processor[0]), len(bench.deeds)), (60, 1))
         bench.do_deed(("next", 0, 0, 59))
-        self.assertEqual(outcome(bench_behind, SMALL, bench.processor, (), [], [("guess", 0, 1), ("state",)]), (InvalidDeed, 1))
+        self.assertEqual(outcome(bench_behind, SMALL, bench.processor, (), [], [("guess", 0, 1), ("state",)]),
+            (InvalidDeed, 1))
 
     def test_great_beats(self):
         bench = Bench(SMALL, STILL, (("fence",), ("fence",)), [(0,)])
@@ -246,7 +264,8 @@ class BenchTest(unittest.TestCase):
                 verdict = Bench(*args).verdict()
                 seen[verdict[0]] += 1
                 if verdict[0] == "quiet":
-                    self.assertEqual(len({trace_of(frame, program, datum, verdict[1]) for datum in data}), min(len(data), 1))
+                    self.assertEqual(len({trace_of(frame, program, datum, verdict[1]) for datum in data}),
+                        min(len(data), 1))
                 elif verdict[0] == "lucky":
                     # For each lot that is kept some processor that keeps it parts two of the data.
                     self.assertEqual(len({view_of(frame, processor, program, datum) for datum in data}), 1)
@@ -274,7 +293,8 @@ class BenchTest(unittest.TestCase):
                         self.assertEqual(bench.verdict()[0], "quiet")
                         need_program(frame, bench.program)
                         for datum in data:
-                            self.assertEqual(datum_behind(frame, bench.program, datum), datum_behind(frame, program, datum))
+                            self.assertEqual(datum_behind(frame, bench.program, datum),
+                                datum_behind(frame, program, datum))
                         fenced += bench.program != unrolled(frame, program)
         self.assertGreater(fenced, 3)
 
@@ -284,7 +304,8 @@ class BenchTest(unittest.TestCase):
         program = (("op", 0, 0, 0, 0),)
         for data in itertools.permutations(data_of(frame)):
             views = [datum[0] for datum in data]
-            expected = next((data[one], data[other]) for one, other in itertools.combinations(range(4), 2) if views[one] != views[other])
+            expected = next((data[one], data[other]) for one, other in itertools.combinations(range(4),
+                2) if views[one] != views[other])
             self.assertEqual(Bench(frame, loud, program, list(data)).verdict(), ("loud",) + expected)
 
     def test_what_is_handed_in_has_no_effect_later(self):
@@ -337,7 +358,8 @@ class BehindTest(unittest.TestCase):
                     self.assertEqual(told, (InvalidDeed, at))
                     continue
                 self.assertIsInstance(told[1], Bench)
-                self.assertEqual((things_of(told[1]), told[1].deeds, told[1].anew), (things_of(bench), bench.deeds, bench.anew))
+                self.assertEqual((things_of(told[1]), told[1].deeds, told[1].anew),
+                    (things_of(bench), bench.deeds, bench.anew))
                 self.assertEqual(told_by(told[1]), told_by(bench))
 
     def test_any_values(self):
@@ -348,7 +370,8 @@ class BehindTest(unittest.TestCase):
             0: (None, (InvalidFrame, -1)), 1: (((4,), (0,)), (InvalidProcessor, 0)), 2: ((0,), (InvalidProgram, 0)),
             3: ([(0,), (0,)], (InvalidDatum, 1)), 4: (None, (InvalidDeed, -1))})
         for deeds, at in (
-                (None, -1), ("state", -1), (0, -1), ([("state",), 0], 1), (("state",), 0), ([["state"], ["state"], ["strike", 0]], 2),
+                (None, -1), ("state", -1), (0, -1), ([("state",), 0], 1), (("state",), 0),
+                ([["state"], ["state"], ["strike", 0]], 2),
                 ([("put", 0, ("fence",)), ("strike", 0), ("strike", 0)], 2)):
             self.assertEqual(outcome(bench_behind, *good[:4], deeds), (InvalidDeed, at), deeds)
         frame = (2, 1, 0, (AND,), 0)

@@ -27,10 +27,9 @@ def processors(frame, many, seed=0):
         yield kind_processor(draw, events, draw.randrange(1, 4), 0.3)
         states = draw.randrange(1, 4)
         # Here wrong events alone are told apart, and seldom at once.
-        rows = [kind_processor(draw, events, states, 0.4)[1] for _ in range(1)][0]
         rows = tuple(tuple(
-            (1 if draw.random() < 0.8 else beats, state) if event[0] == "wrong op" else (1, 0) for event, (beats, state) in zip(events, row))
-            for row in rows)
+            (1 if draw.random() < 0.8 else beats, state) if event[0] == "wrong op" else (1, 0)
+            for event, (beats, state) in zip(events, row)) for row in kind_processor(draw, events, states, 0.4)[1])
         yield (3,) * states, rows
 
 
@@ -170,7 +169,8 @@ def slow_holds(frame, processor, lot, value):
             return False
         if not all(are_classes(classes, 2 * nodes.many) for classes in rows):
             return False
-        return all(leads_into(nodes, side, rows[side], rows[side], outs) for side in (0, 1)) and goes_with(nodes, outs, rows)
+        return all(leads_into(nodes, side, rows[side], rows[side], outs) for side in (0, 1)) and goes_with(nodes, outs,
+            rows)
     if len(value) != 4 or value[0] != "from" or not is_number(value[1]) or not are_broken(nodes, value[2], value[1]):
         return False
     _, deep, _, kept = value
@@ -218,7 +218,8 @@ class DepthTest(unittest.TestCase):
     def test_how_deep_and_how_many_registers_does_not_matter(self):
         for processor in processors(FRAME, 5, seed=1):
             for lot in LOTS[::3]:
-                papers = {depth_paper((2, registers, 0, (XOR,), deep), processor, lot) for registers in (1, 2, 4) for deep in (1, 2, 3)}
+                papers = {depth_paper((2, registers, 0, (XOR,), deep), processor, lot) for registers in (1, 2,
+                    4) for deep in (1, 2, 3)}
                 self.assertEqual(len(papers), 1)
                 if promise_depth(FRAME, processor, lot) in (None, 3):
                     self.assertTrue(is_kept((2, 2, 0, (XOR,), 2), processor, lot))
@@ -233,8 +234,10 @@ class DepthTest(unittest.TestCase):
         self.assertEqual((paper[:2], len(paper[2]), paper[3]), (("from", 0), 1, None))
         self.assertEqual(promise_depth(frame, ((3,), (ones,)), (0,)), None)
         for steps, expected in (
-                (((step(0, 0), step(1, 0)),), True), (((step(1, 0), step(0, 1)),), True), (((step(1, 0), step(1, 1)),), False),
-                (((step(1, 0), step(1, 1)), (step(0, 0), step(1, 0))), True), (((step(0, 0), step(1, 0)),) * 2, False), ((), False),
+                (((step(0, 0), step(1, 0)),), True), (((step(1, 0), step(0, 1)),), True),
+                (((step(1, 0), step(1, 1)),), False),
+                (((step(1, 0), step(1, 1)), (step(0, 0), step(1, 0))), True), (((step(0, 0), step(1, 0)),) * 2, False),
+                ((), False),
                 (((step(0, 0), (("fence",), ())),), False), (((step(0, 0), step(2, 0)),), False)):
             self.assertIs(depth_holds(frame, ((3,), (ones,)), (), ("from", 0, steps, None)), expected, steps)
         self.assertIs(depth_holds(frame, ((3,), (ones,)), (0,), ("from", 0, ((step(0, 0), step(1, 0)),), None)), False)
@@ -250,7 +253,8 @@ class DepthTest(unittest.TestCase):
             for deep in (paper[1] - 1, paper[1] + 1, 0, HUGE):
                 self.assertIs(depth_holds(FRAME, processor, lot, with_part(paper, 1, deep)), False)
             short = tuple(ladder[:-1] for ladder in paper[3][1])
-            self.assertIs(depth_holds(FRAME, processor, lot, ("from", paper[1] - 1, paper[2], (paper[3][0], short))), False)
+            self.assertIs(depth_holds(FRAME, processor, lot, ("from", paper[1] - 1, paper[2], (paper[3][0], short))),
+                False)
             longer = (paper[3][0], tuple(ladder[:1] + ladder for ladder in paper[3][1]))
             self.assertIs(depth_holds(FRAME, processor, lot, ("from", paper[1] + 1, paper[2], longer)), False)
             # Steps of a greater depth show no more: they may have more wrong events than are told.
@@ -267,10 +271,12 @@ class DepthTest(unittest.TestCase):
                 paper = depth_paper(frame, processor, lot)
                 for _ in range(12):
                     some = lambda size: tuple(draw.choice((None, 0, 1, HUGE)) for _ in range(size))
-                    changed = lambda classes: with_part(classes, draw.randrange(len(classes)), draw.choice((None, 0, 1, 7)))
+                    changed = lambda classes: with_part(classes, draw.randrange(len(classes)),
+                        draw.choice((None, 0, 1, 7)))
                     value = ("always", some(many), (some(2 * many), some(2 * many)))
                     if paper[0] == "always":
-                        value = draw.choice((value, ("always", changed(paper[1]), paper[2]), ("always", paper[1], (changed(paper[2][0]), paper[2][1]))))
+                        value = draw.choice((value, ("always", changed(paper[1]), paper[2]),
+                            ("always", paper[1], (changed(paper[2][0]), paper[2][1]))))
                     elif paper[1]:
                         outs, ladders = paper[3]
                         ladder = with_part(ladders[1], draw.randrange(paper[1]), changed(draw.choice(ladders[1])))
@@ -297,10 +303,12 @@ class DepthTest(unittest.TestCase):
     def test_wrong_frames(self):
         wet = (2, 1, 2, (AND,), 0)
         for function, rest in (
-                (depth_paper, (STILL, ())), (depth_holds, (STILL, (), None)), (promise_depth, (STILL, ())), (atom_depths, (STILL,)),
+                (depth_paper, (STILL, ())), (depth_holds, (STILL, (), None)), (promise_depth, (STILL, ())),
+                (atom_depths, (STILL,)),
                 (least_at, (STILL, 0)), (latest_processor, (1,))):
             for frame, at in (
-                    (None, -1), ((4, 1, 0, (), 1), 0), ((2, 0, 2, (), 0), 1), ((2, 1, 1, (), 0), 2), ((2, 1, 2, None, 0), 3), ((2, 1, 2, (), 4), 4),
+                    (None, -1), ((4, 1, 0, (), 1), 0), ((2, 0, 2, (), 0), 1), ((2, 1, 1, (), 0), 2),
+                    ((2, 1, 2, None, 0), 3), ((2, 1, 2, (), 4), 4),
                     (wet, 2), ((2, 1, 0, (), 0), 4), ((2, 1, 2, (), 1), 2)):
                 self.assertEqual(outcome(function, frame, *rest), (InvalidFrame, at), (function, frame))
 
@@ -325,11 +333,13 @@ class NumberTest(unittest.TestCase):
         for frame in FRAMES:
             for processor in processors(frame, 5, seed=3):
                 told = atom_depths(frame, processor)
-                expected = tuple(promise_depth(frame, processor, lot) for lot in ((1, 6, 7), (0, 6, 7), (0, 1, 7), (0, 1, 6)))
+                expected = tuple(promise_depth(frame, processor, lot) for lot in ((1, 6, 7), (0, 6, 7), (0, 1, 7),
+                    (0, 1, 6)))
                 self.assertEqual(told, expected)
                 seen.add(told)
                 for deep in (0, 1, 2, 3, 9, HUGE):
-                    lot = tuple(atom for atom, number in zip((0, 1, 6, 7), told) if number is not None and number <= deep)
+                    lot = tuple(atom for atom, number in zip((0, 1, 6, 7),
+                        told) if number is not None and number <= deep)
                     self.assertEqual(least_at(frame, processor, deep), lot)
         self.assertGreater(len(seen), 8)
 
@@ -339,7 +349,8 @@ class NumberTest(unittest.TestCase):
                 for deep in (1, 2, 3):
                     lot = least_at(frame, processor, deep)
                     deeper = with_deep(frame, deep)
-                    for other in itertools.chain.from_iterable(itertools.combinations((0, 1, 6, 7), many) for many in range(5)):
+                    for other in itertools.chain.from_iterable(itertools.combinations((0, 1, 6, 7),
+                            many) for many in range(5)):
                         word = "kept" if set(lot) <= set(other) else "broken"
                         self.assertEqual(wide_paper(deeper, processor, other)[0], word)
 

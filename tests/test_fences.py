@@ -12,10 +12,12 @@ from leastpromise.fences import cut_depth, cut_program, deep_run, fence_choices,
 from leastpromise.programs import need_program, unrolled
 from leastpromise.runs import run_steps, trace_of
 from tests.samples import (
-    AND, ANY, HUGE, SUM3, XOR, data_of, is_tupled, kind_processor, outcome, slow_run, some_programs, try_order, try_wrong)
+    AND, ANY, HUGE, SUM3, XOR, data_of, is_tupled, kind_processor, outcome, slow_run, some_programs, try_order,
+    try_wrong)
 
 FRAME = (2, 2, 0, (XOR,), 2)
-FRAMES = [FRAME, (2, 1, 0, (AND,), 1), (2, 2, 2, (AND,), 1), (2, 1, 2, (XOR,), 3), (3, 1, 0, (SUM3,), 2), (2, 2, 0, (AND, XOR), 0), (2, 2, 0, (), 1)]
+FRAMES = [FRAME, (2, 1, 0, (AND,), 1), (2, 2, 2, (AND,), 1), (2, 1, 2, (XOR,), 3), (3, 1, 0, (SUM3,), 2),
+    (2, 2, 0, (AND, XOR), 0), (2, 2, 0, (), 1)]
 LOTS = [(), (0,), (6,), (7,), (0, 6), (1, 2, 4), (6, 7, 8), (0, 1, 2, 3, 4, 5), tuple(range(10))]
 OP, LOAD, FENCE = ("op", 0, 0, 0, 1), ("load", 0, 0), ("fence",)
 DRY = (2, 1, 0, (), 1)
@@ -36,7 +38,8 @@ def with_rows(rows, place, number):
     rows = list(rows)
     fork = list(rows[place[0]])
     inner = fork[2 + place[1]]
-    fork[2 + place[1]] = inner[:number] + (FENCE,) + inner[number:] if len(place) == 2 else with_rows(inner, place[2:], number)
+    fork[2 + place[1]] = inner[:number] + (FENCE,) + inner[number:] if len(place) == 2 else with_rows(inner, place[2:],
+        number)
     rows[place[0]] = tuple(fork)
     return tuple(rows)
 
@@ -46,7 +49,8 @@ def wrong_rows(side):
 
 
 def fences_in(rows):
-    return sum(1 if row[0] == "fence" else sum(fences_in(side) for side in row[2:]) if row[0] == "fork" else 0 for row in rows)
+    within = [fences_in(side) for row in rows if row[0] == "fork" for side in row[2:]]
+    return sum(within) + sum(row == FENCE for row in rows)
 
 
 class DeepTest(unittest.TestCase):
@@ -60,7 +64,8 @@ class DeepTest(unittest.TestCase):
                         self.assertEqual(run, slow_run(frame[:4] + (deep,), program, datum)[0])
                     self.assertEqual(runs[frame[4]], run_steps(frame, program, datum))
                     for less, more in zip(runs, runs[1:]):
-                        self.assertTrue(all(wrong == further[:len(wrong)] for (_, wrong), (_, further) in zip(less, more)))
+                        self.assertTrue(all(wrong == further[:len(wrong)] for (_, wrong), (_, further) in zip(less,
+                            more)))
                     self.assertEqual(deep_run(frame, HUGE, program, datum), deep_run(frame, 1000, program, datum))
         rows = (("fork", 0, (), (("loop", 4, (("op", 0, 0, 0, 0),) * 3),)),)
         self.assertEqual(len(deep_run((2, 1, 0, (AND,), 0), 9, rows, (0,))[0][1]), 9)
@@ -70,7 +75,8 @@ class DeepTest(unittest.TestCase):
         good = (FRAME, 5, (), (0, 0))
         try_wrong(self, deep_run, good, {1: InvalidSize, 2: InvalidProgram, 3: InvalidDatum})
         try_order(self, deep_run, good, {
-            0: (None, (InvalidFrame, -1)), 1: (-1, (InvalidSize, "deep")), 2: ((0,), (InvalidProgram, 0)), 3: ([0], (InvalidDatum, -1))})
+            0: (None, (InvalidFrame, -1)), 1: (-1, (InvalidSize, "deep")), 2: ((0,), (InvalidProgram, 0)),
+            3: ([0], (InvalidDatum, -1))})
         for value in (None, True, "1", -1, -HUGE, (1,)):
             self.assertEqual(outcome(deep_run, FRAME, value, (), (0, 0)), (InvalidSize, "deep"))
             self.assertEqual(outcome(cut_program, FRAME, (), value), (InvalidSize, "many"))
@@ -81,8 +87,10 @@ class CutTest(unittest.TestCase):
         frame = (2, 2, 2, (XOR,), 1)
         store = ("store", 0, 0)
         for side, many, expected in (
-                ((OP, LOAD), 1, (OP, FENCE, LOAD)), ((OP, LOAD), 2, (OP, LOAD)), ((OP, LOAD), 0, (FENCE, OP, LOAD)), ((), 0, ()),
-                ((OP, store, OP, OP), 1, (OP, store, OP, OP)), ((store, OP, OP), 0, (store, OP, OP)), ((FENCE, OP), 0, (FENCE, OP)),
+                ((OP, LOAD), 1, (OP, FENCE, LOAD)), ((OP, LOAD), 2, (OP, LOAD)), ((OP, LOAD), 0, (FENCE, OP, LOAD)),
+                ((), 0, ()),
+                ((OP, store, OP, OP), 1, (OP, store, OP, OP)), ((store, OP, OP), 0, (store, OP, OP)),
+                ((FENCE, OP), 0, (FENCE, OP)),
                 ((OP, OP, OP, store), 2, (OP, OP, FENCE, OP, store)), ((OP,), HUGE, (OP,))):
             program = (("fork", 0, side, ()), ("fork", 1, (), (FENCE, ("fork", 0, (), side))))
             cut = (("fork", 0, expected, ()), ("fork", 1, (), (FENCE, ("fork", 0, (), expected))))
@@ -109,7 +117,8 @@ class CutTest(unittest.TestCase):
                         run = deep_run(frame, 99, cut, datum)
                         self.assertTrue(all(len(wrong) <= many for _, wrong in run))
                         right = [event for event, _ in run if event != FENCE]
-                        self.assertEqual(right, [event for event, _ in run_steps(frame, program, datum) if event != FENCE])
+                        self.assertEqual(right,
+                            [event for event, _ in run_steps(frame, program, datum) if event != FENCE])
 
     def view(self, frame, processor, steps):
         """The view of steps of any depth."""
@@ -181,7 +190,8 @@ class CutTest(unittest.TestCase):
         good = (DRY, STILL, ())
         try_wrong(self, cut_depth, good, {0: InvalidFrame, 1: InvalidProcessor, 2: InvalidLot})
         try_order(self, cut_depth, good, {
-            0: ((2, 1, 0, (), 0), (InvalidFrame, 4)), 1: (((4,), (0,)), (InvalidProcessor, 0)), 2: ([3, 3], (InvalidLot, 1))})
+            0: ((2, 1, 0, (), 0), (InvalidFrame, 4)), 1: (((4,), (0,)), (InvalidProcessor, 0)),
+            2: ([3, 3], (InvalidLot, 1))})
         self.assertEqual(outcome(cut_depth, (2, 1, 2, (), 0), STILL, ()), (InvalidFrame, 2))
         frame = (2, 1, 0, (AND,), 1)
         ones = ((0,), (tuple((1 + event[2] if event[0] == "op" else 1, 0) for event in frame_events(frame)),))
@@ -210,7 +220,8 @@ def is_loud_way(frame, rows, place, one, other, lot):
     ways = [wrong_at(frame, rows, place, datum) for datum in (one, other)]
     if None in ways:
         return False
-    shown = [[tuple(event[at - 2] for at in (0, 1) if {"wrong op": 6, "wrong load": 8}[event[0]] + at in lot) for event in way] for way in ways]
+    shown = [[tuple(event[at - 2] for at in (0, 1) if {"wrong op": 6,
+        "wrong load": 8}[event[0]] + at in lot) for event in way] for way in ways]
     return shown[0] != shown[1]
 
 
@@ -252,7 +263,8 @@ class ChoicesTest(unittest.TestCase):
             told = outcome(fence_choices, frame, program, lot, data)
             rows = unrolled(frame, program)
             right = [[(event[0], [event[at - 2] for at in (0, 1) if {"op": 0, "load": 2, "store": 4}.get(event[0], 10) + at in lot],
-                       event[1:] if event[0] == "fork" else None) for event, _ in run_steps(frame, program, datum)] for datum in data]
+                       event[1:] if event[0] == "fork" else None) for event, _ in run_steps(frame, program,
+                       datum)] for datum in data]
             if any(one != right[0] for one in right):
                 self.assertEqual(told, (Refused, "right"))
                 refused += 1
@@ -310,10 +322,14 @@ class ChoicesTest(unittest.TestCase):
         program = (("fork", 0, (OP, ("fork", 1, (), (OP,))), ()),)
         good = ((0, 0), 1)
         for choices, at in (
-                (None, -1), (0, -1), ("", -1), ([0], 0), ([()], 0), ([((0, 0),)], 0), ([((0, 0), 3)], 0), ([((0, 0), -1)], 0),
-                ([((0, 0), True)], 0), ([((0, 0), None)], 0), ([((0, 2), 0)], 0), ([((1, 0), 0)], 0), ([((0,), 0)], 0), ([((), 0)], 0), ([((0, 0, 0, 0), 0)], 0),
-                ([((0, 0, 1), 0)], 0), ([((0, 0, 1, 1, 0, 0), 0)], 0), ([[(0, 0), 0]], 0), ([([0, 0], 0)], 0), ([good, good], 1), ([good, ((0, 0), 2)], 1),
-                ([((0, 1), 0), good], 1), ([good, ((0, 0, 1, 1), 1), ((0, 0, 1, 0), 0)], 2), ([((0, False), 0)], 0), ([((0, 0), HUGE)], 0)):
+                (None, -1), (0, -1), ("", -1), ([0], 0), ([()], 0), ([((0, 0),)], 0), ([((0, 0), 3)], 0),
+                ([((0, 0), -1)], 0),
+                ([((0, 0), True)], 0), ([((0, 0), None)], 0), ([((0, 2), 0)], 0), ([((1, 0), 0)], 0), ([((0,), 0)], 0),
+                ([((), 0)], 0), ([((0, 0, 0, 0), 0)], 0),
+                ([((0, 0, 1), 0)], 0), ([((0, 0, 1, 1, 0, 0), 0)], 0), ([[(0, 0), 0]], 0), ([([0, 0], 0)], 0),
+                ([good, good], 1), ([good, ((0, 0), 2)], 1),
+                ([((0, 1), 0), good], 1), ([good, ((0, 0, 1, 1), 1), ((0, 0, 1, 0), 0)], 2), ([((0, False), 0)], 0),
+                ([((0, 0), HUGE)], 0)):
             self.assertEqual(outcome(put_fences, FRAME, program, choices), (InvalidRows, at), choices)
         self.assertEqual(outcome(put_fences, FRAME, program, [good, ((0, 0, 1, 1), 1), ((0, 1), 0)])[0], "told")
         # Places are those of the program unrolled.
@@ -330,7 +346,8 @@ class ChoicesTest(unittest.TestCase):
         good = (FRAME, (OP,), (), [(0, 0)])
         try_wrong(self, fence_choices, good, {1: InvalidProgram, 2: InvalidLot, 3: InvalidDatum})
         try_order(self, fence_choices, good, {
-            0: (None, (InvalidFrame, -1)), 1: ((0,), (InvalidProgram, 0)), 2: ([3, 3], (InvalidLot, 1)), 3: ([(0, 0), (0, 0)], (InvalidDatum, 1))})
+            0: (None, (InvalidFrame, -1)), 1: ((0,), (InvalidProgram, 0)), 2: ([3, 3], (InvalidLot, 1)),
+            3: ([(0, 0), (0, 0)], (InvalidDatum, 1))})
         self.assertEqual(fence_choices(FRAME, (OP,), (0,), []), ())
         self.assertEqual(outcome(fence_choices, FRAME, (("fork", 0, (), ()),), (), data_of(FRAME)), (Refused, "right"))
         self.assertEqual(outcome(fence_choices, FRAME, (OP,), (0,), data_of(FRAME)), (Refused, "right"))

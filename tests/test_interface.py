@@ -96,7 +96,8 @@ PARAMETERS = {
         "whole_view": "frame guesser parts program datum", "beside_guesser": "frame guesser part",
         "whole_paper": "frame guesser parts lot", "whole_holds": "frame guesser parts lot value",
         "whole_leaks": "frame guesser parts", "is_guarded": "frame guesser lot", "sure_paper": "frame part lot",
-        "guarded_paper": "frame part lot", "sure_holds": "frame part lot value", "guarded_holds": "frame part lot value",
+        "guarded_paper": "frame part lot", "sure_holds": "frame part lot value",
+        "guarded_holds": "frame part lot value",
         "partner": "frame part", "stands_paper": "frame part other", "stands_hold": "frame part other value"},
     "fences": {
         "deep_run": "frame deep program datum", "cut_program": "frame program many",

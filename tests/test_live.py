@@ -6,7 +6,8 @@ import unittest
 from leastpromise.bench import Bench, bench_behind
 from leastpromise.code import compiled, compiled_holds
 from leastpromise.errors import (
-    InvalidDatum, InvalidDeed, InvalidFrame, InvalidIndex, InvalidLot, InvalidProcessor, InvalidProgram, InvalidSource, Refused)
+    InvalidDatum, InvalidDeed, InvalidFrame, InvalidIndex, InvalidLot, InvalidProcessor, InvalidProgram, InvalidSource,
+    Refused)
 from leastpromise.live import Live
 from tests.samples import AND, ANY, HUGE, XOR, data_of, outcome, try_order, with_part
 from tests.test_bench import some_bench, some_deed, things_of, told_by
@@ -171,7 +172,8 @@ class LiveTest(unittest.TestCase):
         for value in ANY:
             self.assertIn(outcome(live.compiled_now, value)[0], (InvalidLot, InvalidSource), value)
         self.assertEqual(outcome(live.compiled_now, [3, 3]), (InvalidLot, 1))
-        self.assertEqual(Live(SMALL, STILL, (("fence",),), [(1,), (0,)]).compiled_now(()), ("fenced", (("fence",),), ()))
+        self.assertEqual(Live(SMALL, STILL, (("fence",),), [(1,), (0,)]).compiled_now(()),
+            ("fenced", (("fence",),), ()))
 
     def test_any_values(self):
         good = (SMALL, STILL, (), ((0,),))

@@ -9,7 +9,8 @@ from leastpromise.code import compiled_holds
 from leastpromise.compiler import open_classes
 from leastpromise.court import court_holds
 from leastpromise.errors import (
-    InvalidDatum, InvalidFrame, InvalidIndex, InvalidLot, InvalidProcessor, InvalidProgram, InvalidRows, InvalidSource, PromiseError,
+    InvalidDatum, InvalidFrame, InvalidIndex, InvalidLot, InvalidProcessor, InvalidProgram, InvalidRows, InvalidSource,
+    PromiseError,
     Refused)
 from leastpromise.events import frame_events
 from leastpromise.looks import look_holds, make_look, wrong_looks
@@ -22,7 +23,8 @@ SMALL = (2, 1, 0, (), 0)
 STILL = ((0,), (((1, 0),) * 3,))
 OP, FENCE = ("op", 0, 0, 1, 1), ("fence",)
 COUNTS = {
-    "court": 3, "wide": 3, "both": 2, "order": 3, "ever": 3, "silent": 5, "compiled": 5, "asks": 4, "shares": 4, "rule": 4}
+    "court": 3, "wide": 3, "both": 2, "order": 3, "ever": 3, "silent": 5, "compiled": 5, "asks": 4, "shares": 4,
+    "rule": 4}
 
 
 def questions(frame, seed=0):
@@ -114,10 +116,12 @@ class LookTest(unittest.TestCase):
         for at in range(3):
             for value in ANY:
                 self.assertIn(look_holds(("court", with_part(look[1], at, value), look[2])), (True, False))
-        for value in ANY + [None, "court", ("court",), ("court", ()), ("court", (), ()), ("both", (frame, still)), ((), (), ()), (None,) * 3, nested(12)]:
+        for value in ANY + [None, "court", ("court",), ("court", ()), ("court", (), ()), ("both", (frame, still)),
+                ((), (), ()), (None,) * 3, nested(12)]:
             self.assertIs(look_holds(value), False, value)
         bench = Bench(SMALL, STILL, (), [])
-        for value in (bench, ("court", bench, ()), ("court", (bench,) * 3, ()), (bench,) * 3, look[:2] + (bench,), ("both", (SMALL, STILL), (bench, bench))):
+        for value in (bench, ("court", bench, ()), ("court", (bench,) * 3, ()), (bench,) * 3, look[:2] + (bench,),
+                ("both", (SMALL, STILL), (bench, bench))):
             self.assertIs(look_holds(value), False)
         self.assertIs(look_holds(("court", (frame, still, (3, 3)), look[2])), False)
         self.assertIs(compiled_holds(frame, (), (((0, 0),),), (0,), (), look[2]), False)
@@ -134,13 +138,18 @@ class LookTest(unittest.TestCase):
 
     def test_errors_of_what_is_asked(self):
         for word, question, expected in (
-                ("court", ([2, 1, 0, [], 0], [[4], [0]], []), (InvalidProcessor, 0)), ("court", (SMALL, STILL, [3, 3]), (InvalidLot, 1)),
+                ("court", ([2, 1, 0, [], 0], [[4], [0]], []), (InvalidProcessor, 0)),
+                ("court", (SMALL, STILL, [3, 3]), (InvalidLot, 1)),
                 ("wide", (SMALL, STILL, None), (InvalidLot, -1)), ("both", (SMALL, None), (InvalidProcessor, -1)),
-                ("order", (SMALL, STILL, None), (InvalidProcessor, -1)), ("ever", (SMALL, 0, ()), (InvalidProcessor, -1)),
-                ("silent", (SMALL, (), [], (), ()), (InvalidSource, -1)), ("silent", (SMALL, (), [[[0]]], (1,), ()), (InvalidIndex, 0)),
-                ("compiled", (SMALL, (), [[[0], [0]]], (), ()), (InvalidSource, 0)), ("compiled", (SMALL, (), [[[0]]], (), [0]), (InvalidProgram, 0)),
+                ("order", (SMALL, STILL, None), (InvalidProcessor, -1)),
+                ("ever", (SMALL, 0, ()), (InvalidProcessor, -1)),
+                ("silent", (SMALL, (), [], (), ()), (InvalidSource, -1)),
+                ("silent", (SMALL, (), [[[0]]], (1,), ()), (InvalidIndex, 0)),
+                ("compiled", (SMALL, (), [[[0], [0]]], (), ()), (InvalidSource, 0)),
+                ("compiled", (SMALL, (), [[[0]]], (), [0]), (InvalidProgram, 0)),
                 ("asks", (SMALL, (), (), []), (InvalidDatum, -1)), ("shares", (SMALL, (), (), [[]]), (InvalidDatum, 0)),
-                ("rule", (SMALL, [], [0], ()), (InvalidRows, 0)), ("rule", (FRAME, [], [OP], ()), (Refused, "meaning"))):
+                ("rule", (SMALL, [], [0], ()), (InvalidRows, 0)),
+                ("rule", (FRAME, [], [OP], ()), (Refused, "meaning"))):
             self.assertEqual(outcome(make_look, word, question), expected, (word, question))
 
     def test_wrong_looks(self):

@@ -243,7 +243,8 @@ class OrderTest(unittest.TestCase):
             for _ in range(6):
                 rows = [kind_processor(draw, events, 2, 0.2)[1] for _ in range(2)]
                 one, other = [((3, 3), tuple(tuple(
-                    told if event[0].startswith("wrong") else (1, 0) for event, told in zip(events, row)) for row in part))
+                    told if event[0].startswith("wrong") else (1, 0) for event, told in zip(events,
+                    row)) for row in part))
                     for part in rows]
                 paper, told = order_paper(frame, one, other), SlowOrder(frame, one, other).least()
                 self.assertEqual(paper[0], told[0])
@@ -303,8 +304,9 @@ class OrderTest(unittest.TestCase):
                 if word == "more":
                     return judged(value)
                 right = list(itertools.combinations([(datum, 0, 0) for datum in data_of(frame)], 2))
-                return all(pair in right for pair in value[1]) and list(value[1]) == sorted(set(value[1])) and slow.is_closed(
-                    value[1]) if isinstance(value[1], tuple) else False
+                if not isinstance(value[1], tuple) or not all(pair in right for pair in value[1]):
+                    return False
+                return list(value[1]) == sorted(set(value[1])) and slow.is_closed(value[1])
 
             def judged(value):
                 return order_holds(frame, one, other, value)
@@ -319,8 +321,10 @@ class OrderTest(unittest.TestCase):
         judge = lambda value: order_holds(frame, ones, still, value)
         for program, one, other, expected in (
                 ((op,), (0, 0), (1, 0), True), ((op,), (1, 0), (0, 0), True), ((op,), (0, 0), (0, 1), False),
-                ((op,), (0, 0), (0, 0), False), ((("loop", 2, (op,)),), (0, 0), (1, 0), True), ((), (0, 0), (1, 0), False),
-                ((("fork", 0, (op,), (op,)),), (0, 0), (1, 0), False), ((("fork", 1, (op,), ()), op), (0, 0), (1, 0), True),
+                ((op,), (0, 0), (0, 0), False), ((("loop", 2, (op,)),), (0, 0), (1, 0), True),
+                ((), (0, 0), (1, 0), False),
+                ((("fork", 0, (op,), (op,)),), (0, 0), (1, 0), False),
+                ((("fork", 1, (op,), ()), op), (0, 0), (1, 0), True),
                 ((("fence",),) * 9 + (op,), (0, 1), (1, 1), True)):
             self.assertIs(judge(("more", program, one, other)), expected, (program, one, other))
         for value in (("more", [op], (0, 0), (1, 0)), ("more", (op,), [0, 0], (1, 0)), ["more", (op,), (0, 0), (1, 0)],
@@ -332,7 +336,8 @@ class OrderTest(unittest.TestCase):
     def test_any_values(self):
         good = (SMALL, UP, STILL)
         wrong = {
-            0: (None, (InvalidFrame, -1)), 1: (((4,), (0,)), (InvalidProcessor, 0)), 2: (((0,), ((),)), (InvalidProcessor, 1))}
+            0: (None, (InvalidFrame, -1)), 1: (((4,), (0,)), (InvalidProcessor, 0)),
+            2: (((0,), ((),)), (InvalidProcessor, 1))}
         for function in (order_paper, views_paper):
             try_wrong(self, function, good, {1: InvalidProcessor, 2: InvalidProcessor})
             try_order(self, function, good, wrong)

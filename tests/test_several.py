@@ -14,7 +14,8 @@ from leastpromise.events import frame_events, need_processor, read_step, view_fr
 from leastpromise.programs import need_frame, unrolled
 from leastpromise.runs import trace_of
 from leastpromise.several import (
-    asks_hold, asks_paper, ever_holds, ever_paper, is_kept_ever, late_processor, secret_classes, shares_hold, shares_paper,
+    asks_hold, asks_paper, ever_holds, ever_paper, is_kept_ever, late_processor, secret_classes, shares_hold,
+    shares_paper,
     sum_deals, telling_inputs)
 from tests.samples import (
     AND, ANY, HUGE, SUM3, XOR, data_of, is_tupled, kind_processor, outcome, quiet_processor, some_programs, try_judge,
@@ -112,7 +113,8 @@ class EverTest(unittest.TestCase):
                     for program in some_programs(frame, 8, seed=2):
                         one, other = draw.choice(data_of(frame)), draw.choice(data_of(frame))
                         if trace_of(frame, program, one, lot) == trace_of(frame, program, other, lot):
-                            told = [view_from(frame, processor, state, program, datum) for state, datum in zip(states, (one, other))]
+                            told = [view_from(frame, processor, state, program, datum) for state, datum in zip(states,
+                                (one, other))]
                             self.assertEqual(told[0][0], told[1][0])
                             states = [state for _, state in told]
 
@@ -149,7 +151,9 @@ class EverTest(unittest.TestCase):
             if not isinstance(value, tuple) or len(value) != 2 or value[0] != "kept" or not isinstance(value[1], tuple):
                 return False
             right = list(itertools.product((0, 1), repeat=2))
-            return all(pair in right for pair in value[1]) and list(value[1]) == sorted(set(value[1])) and slow.is_closed(value[1])
+            if not all(pair in right for pair in value[1]):
+                return False
+            return list(value[1]) == sorted(set(value[1])) and slow.is_closed(value[1])
 
         try_judge(self, lambda value: ever_holds(frame, quiet, (), value), ever_paper(frame, quiet, ()), expected)
         frame, processor, lot = late_processor()
@@ -174,7 +178,8 @@ class EverTest(unittest.TestCase):
         self.assertIs(judge(first, ((("fork", 0, (("fence",),), ()),),) + last[1:]), True)
         self.assertIs(ever_holds(frame, processor, (0,), ("told", (first, last))), False)
         self.assertIs(ever_holds(frame, processor, lot, ("told", [first, last])), False)
-        for run in (None, first[:2], first + (0,), list(first), (list(first[0]),) + first[1:], (first[0], (2,), (1,)), (first[0], (False,), (1,))):
+        for run in (None, first[:2], first + (0,), list(first), (list(first[0]),) + first[1:], (first[0], (2,), (1,)),
+                (first[0], (False,), (1,))):
             self.assertIs(judge(run, last), False)
 
     def test_late(self):
@@ -279,7 +284,8 @@ class SecretsTest(unittest.TestCase):
             expected = ("told", ((count - 1,),)) if count < 13 else (InvalidSize, "inputs")
             self.assertEqual(outcome(telling_inputs, FRAME, OP, (0,), deals), expected)
             self.assertEqual(secret_classes(FRAME, OP, (0,), deals), ((0,), (1,)))
-            self.assertEqual(asks_paper(FRAME, OP, (0,), deals), (1, ("ask", count - 1, (("told", (0,)), ("told", (1,))))))
+            self.assertEqual(asks_paper(FRAME, OP, (0,), deals),
+                (1, ("ask", count - 1, (("told", (0,)), ("told", (1,))))))
             self.assertEqual(telling_inputs(FRAME, OP, (), [[(0, 0)] * 12] * 2), ((),))
 
     def test_asks(self):
@@ -327,14 +333,17 @@ class SecretsTest(unittest.TestCase):
         long = ("ask", 1, (("ask", 0, (told(0), ("ask", 2, (told(2), told(3))))), told(1)))
         self.assertIs(judge((3, long)), False)
         self.assertIs(judge((2, long)), False)
-        for value in ((3, tree), (True, tree), (2, tree[:2]), (2, ("ask", 0, tree[2][::-1])), (2, ("ask", 3, tree[2])), (2, ("ask", False, tree[2])),
-                      (2, ("ask", 0, list(tree[2]))), [2, tree], (2, told(0)), (2, tree, ()), (2, ("told", (0, 1, 2, 3)))):
+        for value in ((3, tree), (True, tree), (2, tree[:2]), (2, ("ask", 0, tree[2][::-1])), (2, ("ask", 3, tree[2])),
+                (2, ("ask", False, tree[2])),
+                      (2, ("ask", 0, list(tree[2]))), [2, tree], (2, told(0)), (2, tree, ()),
+                      (2, ("told", (0, 1, 2, 3)))):
             self.assertIs(judge(value), False)
         # An ask that parts nothing may stand where there is room for it.
         deals = [[zero, zero, zero], [zero, zero, one], [one, zero, zero], [one, zero, zero]]
         rest = ("told", (2, 3))
         for value, expected in (
-                (("ask", 0, (("ask", 2, (told(0), told(1))), rest)), True), (("ask", 2, (("ask", 0, (told(0), rest)), told(1))), True),
+                (("ask", 0, (("ask", 2, (told(0), told(1))), rest)), True),
+                (("ask", 2, (("ask", 0, (told(0), rest)), told(1))), True),
                 (("ask", 0, (("ask", 2, (told(0), told(1))), ("ask", 1, (rest,)))), True),
                 (("ask", 2, (("ask", 0, (told(0), ("ask", 1, (rest,)))), told(1))), False),
                 (("ask", 0, (("ask", 2, (told(0), told(1))), ("ask", 2, (rest,)))), True),
@@ -352,8 +361,10 @@ class SecretsTest(unittest.TestCase):
     def test_wrong_deals(self):
         functions = [secret_classes, telling_inputs, asks_paper, shares_paper]
         for deals, at in (
-                (None, -1), ([], -1), ((), -1), (0, -1), ("", -1), ([[]], 0), ([None], 0), ([[(0, 0)], []], 1), ([[(0, 0)], [(0, 0), (0, 1)]], 1),
-                ([[(0, 0)], (0, 0)], 1), ([[(0, 0)], [(0, 2)]], 1), ([[(0, 0)], [[0, 0]]], 1), ([[(0, False)], []], 0), ([[(0,)]], 0), ([(0, 0)], 0),
+                (None, -1), ([], -1), ((), -1), (0, -1), ("", -1), ([[]], 0), ([None], 0), ([[(0, 0)], []], 1),
+                ([[(0, 0)], [(0, 0), (0, 1)]], 1),
+                ([[(0, 0)], (0, 0)], 1), ([[(0, 0)], [(0, 2)]], 1), ([[(0, 0)], [[0, 0]]], 1), ([[(0, False)], []], 0),
+                ([[(0,)]], 0), ([(0, 0)], 0),
                 ([[(0, 0)], [(0, 1)], [HUGE]], 2)):
             for function in functions:
                 self.assertEqual(outcome(function, FRAME, OP, (0,), deals), (InvalidDatum, at), (function, deals))
@@ -361,7 +372,8 @@ class SecretsTest(unittest.TestCase):
                 self.assertEqual(outcome(function, FRAME, OP, (0,), deals, None), (InvalidDatum, at), (function, deals))
         good = (FRAME, OP, (0,), DEALS)
         wrong = {
-            0: (None, (InvalidFrame, -1)), 1: ((0,), (InvalidProgram, 0)), 2: ([3, 3], (InvalidLot, 1)), 3: ([[]], (InvalidDatum, 0))}
+            0: (None, (InvalidFrame, -1)), 1: ((0,), (InvalidProgram, 0)), 2: ([3, 3], (InvalidLot, 1)),
+            3: ([[]], (InvalidDatum, 0))}
         for function in functions:
             try_wrong(self, function, good, {1: InvalidProgram, 2: InvalidLot, 3: InvalidDatum})
             try_order(self, function, good, wrong)
@@ -402,7 +414,8 @@ class SharesTest(unittest.TestCase):
 
     def test_forks_of_unlike_sides(self):
         frame = (2, 2, 2, (AND,), 2)
-        program = (("fork", 0, (("op", 0, 0, 1, 1), ("load", 0, 1)), (("load", 1, 0), ("op", 0, 0, 0, 0))), ("store", 0, 1))
+        program = (("fork", 0, (("op", 0, 0, 1, 1), ("load", 0, 1)), (("load", 1, 0), ("op", 0, 0, 0, 0))),
+            ("store", 0, 1))
         for lot in LOTS:
             paper = shares_paper(frame, program, lot, [data_of(frame), data_of(frame)[::-1]])
             self.assertEqual(paper[0], "even")
@@ -415,11 +428,16 @@ class SharesTest(unittest.TestCase):
         judge = lambda value: shares_hold(frame, OP, (0,), deals, value)
         zero, one, none = ((((0,), (), None),), (((1,), (), None),), (((2,), (), None),))
         for value, expected in (
-                (("uneven", 0, 1, zero), True), (("uneven", 1, 0, zero), True), (("uneven", 0, 1, one), True), (("uneven", 1, 2, one), True),
-                (("uneven", 0, 2, zero), False), (("uneven", 0, 0, zero), False), (("uneven", 0, 1, none), False), (("uneven", 0, 1, ()), False),
-                (("uneven", 0, 3, zero), False), (("uneven", False, 1, zero), False), (("uneven", 0, 1, (((False,), (), None),)), False),
-                (("uneven", 0, 1, (([0], (), None),)), False), (("uneven", 0, 1, list(zero)), False), (("even", ((zero, 2),)), False),
-                (("even", ()), False), (("uneven", -1, 1, zero), False), (("uneven", 0, 1), False), (["uneven", 0, 1, zero], False)):
+                (("uneven", 0, 1, zero), True), (("uneven", 1, 0, zero), True), (("uneven", 0, 1, one), True),
+                (("uneven", 1, 2, one), True),
+                (("uneven", 0, 2, zero), False), (("uneven", 0, 0, zero), False), (("uneven", 0, 1, none), False),
+                (("uneven", 0, 1, ()), False),
+                (("uneven", 0, 3, zero), False), (("uneven", False, 1, zero), False),
+                (("uneven", 0, 1, (((False,), (), None),)), False),
+                (("uneven", 0, 1, (([0], (), None),)), False), (("uneven", 0, 1, list(zero)), False),
+                (("even", ((zero, 2),)), False),
+                (("even", ()), False), (("uneven", -1, 1, zero), False), (("uneven", 0, 1), False),
+                (["uneven", 0, 1, zero], False)):
             self.assertIs(judge(value), expected, value)
         paper = shares_paper(frame, OP, (0,), deals)
         try_judge(self, judge, paper)
@@ -431,7 +449,8 @@ class SharesTest(unittest.TestCase):
             for lot in ((), (1,)):
                 paper = shares_paper(frame, program, lot, deals)
                 if paper[0] == "even":
-                    try_judge(self, lambda value: shares_hold(frame, program, lot, deals, value), paper, lambda value: value == paper)
+                    try_judge(self, lambda value: shares_hold(frame, program, lot, deals, value), paper,
+                        lambda value: value == paper)
         one = shares_paper(frame, OP, (0, 1), [[(0, 1)]])
         self.assertEqual(one, ("even", (((((0, 1), (), None),), 1),)))
         twice = shares_paper(frame, OP, (0, 1), [[(0, 1), (0, 1)]])

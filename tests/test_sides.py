@@ -13,10 +13,13 @@ from leastpromise.leaks import least_leaks
 from leastpromise.processors import put_beside
 from leastpromise.runs import run_steps, trace_of
 from leastpromise.sides import (
-    beside_guesser, guarded_holds, guarded_paper, is_guarded, partner, stands_hold, stands_paper, sure_holds, sure_paper,
+    beside_guesser, guarded_holds, guarded_paper, is_guarded, partner, stands_hold, stands_paper, sure_holds,
+    sure_paper,
     whole_holds, whole_leaks, whole_paper, whole_view)
+from leastpromise.stretches import guesser_of, parting_of
 from tests.samples import (
-    AND, ANY, SUM3, XOR, data_of, is_tupled, kind_processor, outcome, some_processor, some_programs, try_judge, try_order,
+    AND, ANY, SUM3, XOR, data_of, is_tupled, kind_processor, outcome, some_processor, some_programs, try_judge,
+    try_order,
     try_wrong, with_part)
 from tests.slow import slow_agree, slow_pass, slow_rows
 
@@ -61,7 +64,8 @@ class ClocksTest(unittest.TestCase):
         for frame in FRAMES + [(3, 1, 0, (SUM3,), 2)]:
             draw = random.Random(f"38 {frame}")
             for program in some_programs(frame, 12, seed=38):
-                guesser, parts = some(draw, frame, 2), [some(draw, frame, draw.randrange(1, 4)) for _ in range(draw.randrange(1, 5))]
+                guesser, parts = some(draw, frame,
+                    2), [some(draw, frame, draw.randrange(1, 4)) for _ in range(draw.randrange(1, 5))]
                 for datum in data_of(frame)[::3]:
                     told = whole_view(frame, guesser, parts, program, datum)
                     self.assertTrue(is_tupled(told))
@@ -83,7 +87,8 @@ class ClocksTest(unittest.TestCase):
             # Numbered as put_beside numbers them, with the part's beats alone.
             both = put_beside(frame, guesser, part)
             self.assertEqual(told[0], both[0])
-            self.assertEqual([[state for _, state in row] for row in told[1]], [[state for _, state in row] for row in both[1]])
+            self.assertEqual([[state for _, state in row] for row in told[1]],
+                [[state for _, state in row] for row in both[1]])
             pairs, at = [(0, 0)], 0
             while at < len(pairs):
                 one, other = pairs[at]
@@ -91,23 +96,27 @@ class ClocksTest(unittest.TestCase):
                     if (later, last) not in pairs:
                         pairs.append((later, last))
                 row = tuple(
-                    (beats, pairs.index((later, last))) for (_, later), (beats, last) in zip(guesser[1][one], part[1][other]))
+                    (beats, pairs.index((later, last))) for (_, later), (beats, last) in zip(guesser[1][one],
+                    part[1][other]))
                 self.assertEqual((told[0][at], told[1][at]), (guesser[0][one], row))
                 at += 1
             self.assertEqual(len(told[0]), len(pairs))
 
     def test_sixty_states_and_more(self):
         ring = lambda many: ((0,) * many, tuple(((1, (state + 1) % many),) * 3 for state in range(many)))
-        for one, other, expected in ((60, 1, "told"), (1, 60, "told"), (12, 5, "told"), (60, 60, "told"), (61, 1, InvalidProcessor), (8, 9, Refused), (60, 7, Refused)):
+        for one, other, expected in ((60, 1, "told"), (1, 60, "told"), (12, 5, "told"), (60, 60, "told"),
+                (61, 1, InvalidProcessor), (8, 9, Refused), (60, 7, Refused)):
             for function, args in (
-                    (beside_guesser, (ring(one), ring(other))), (whole_paper, (ring(one), [ring(other)], ())), (whole_leaks, (ring(one), [STILL, ring(other)])),
+                    (beside_guesser, (ring(one), ring(other))), (whole_paper, (ring(one), [ring(other)], ())),
+                    (whole_leaks, (ring(one), [STILL, ring(other)])),
                     (whole_holds, (ring(one), [ring(other)], (), None))):
                 told = outcome(function, SMALL, *args)
                 self.assertEqual(told[0], expected, (one, other, function))
                 if expected is Refused:
                     self.assertEqual(told, (Refused, "states"))
             if one < 61:
-                self.assertEqual(whole_view(SMALL, ring(one), [ring(other)] * 4, (("fence",),) * 3, (0,)), ((1,) * 4,) * 3)
+                self.assertEqual(whole_view(SMALL, ring(one), [ring(other)] * 4, (("fence",),) * 3, (0,)),
+                    ((1,) * 4,) * 3)
         # Errors of lots come ahead of too many states.
         self.assertEqual(outcome(whole_paper, SMALL, ring(60), [ring(7)], [10]), (InvalidLot, 0))
         self.assertEqual(outcome(whole_holds, SMALL, ring(60), [ring(7)], [10], None), (InvalidLot, 0))
@@ -118,7 +127,8 @@ class ClocksTest(unittest.TestCase):
         for frame in FRAMES:
             draw = random.Random(f"40 {frame}")
             for _ in range(6):
-                guesser, parts = some(draw, frame, 2), [some(draw, frame, draw.randrange(1, 3), 0.15) for _ in range(draw.randrange(1, 4))]
+                guesser, parts = some(draw, frame,
+                    2), [some(draw, frame, draw.randrange(1, 3), 0.15) for _ in range(draw.randrange(1, 4))]
                 beside = [beside_guesser(frame, guesser, part) for part in parts]
                 for lot in draw.sample(LOTS, 3):
                     paper = whole_paper(frame, guesser, parts, lot)
@@ -140,7 +150,8 @@ class ClocksTest(unittest.TestCase):
         for guesser, parts in ((UP, [STILL]), (STILL, [UP, STILL])):
             paper = whole_paper(SMALL, guesser, parts, ())
             self.assertEqual(paper[0], "kept")
-            try_judge(self, lambda value: whole_holds(SMALL, guesser, parts, (), value), paper, lambda value: value == paper)
+            try_judge(self, lambda value: whole_holds(SMALL, guesser, parts, (), value), paper,
+                lambda value: value == paper)
         frame = (2, 2, 0, (XOR,), 0)
         ones = ((0,), (tuple((1 + event[2] if event[0] == "op" else 1, 0) for event in frame_events(frame)),))
         still = ((0,), (((1, 0),) * events_many(frame),))
@@ -172,11 +183,14 @@ class ClocksTest(unittest.TestCase):
 
     def test_any_values(self):
         good = (SMALL, UP, [UP, DOWN])
-        wrong = {0: (None, (InvalidFrame, -1)), 1: (((4,), (0,)), (InvalidProcessor, 0)), 2: ([UP, 0], (InvalidWhole, 1))}
+        wrong = {0: (None, (InvalidFrame, -1)), 1: (((4,), (0,)), (InvalidProcessor, 0)),
+            2: ([UP, 0], (InvalidWhole, 1))}
         for parts, at in (
-                (None, -1), ([], -1), ((), -1), ([UP] * 5, -1), ("", -1), (0, -1), ([0], 0), ([UP, UP, None, 0], 2), ([UP, list(UP)], 1),
+                (None, -1), ([], -1), ((), -1), ([UP] * 5, -1), ("", -1), (0, -1), ([0], 0), ([UP, UP, None, 0], 2),
+                ([UP, list(UP)], 1),
                 ([UP, ((4,), UP[1])], 1), (UP, 0), ([((0,), (((1, 0),) * 4,))], 0), ([0] * 5, -1)):
-            for function, rest in ((whole_leaks, ()), (whole_paper, ((),)), (whole_view, ((), (0,))), (whole_holds, ((), None))):
+            for function, rest in ((whole_leaks, ()), (whole_paper, ((),)), (whole_view, ((), (0,))),
+                    (whole_holds, ((), None))):
                 self.assertEqual(outcome(function, SMALL, UP, parts, *rest), (InvalidWhole, at), (function, parts))
                 self.assertEqual(outcome(function, SMALL, None, parts, *rest), (InvalidProcessor, -1))
         try_wrong(self, whole_leaks, good, {1: InvalidProcessor, 2: InvalidWhole})
@@ -185,10 +199,12 @@ class ClocksTest(unittest.TestCase):
         try_wrong(self, whole_paper, good + ((),), {1: InvalidProcessor, 2: InvalidWhole, 3: InvalidLot})
         try_order(self, whole_paper, good + ((),), {**wrong, **lot})
         try_order(self, whole_holds, good + ((), None), {**wrong, **lot})
-        try_order(self, whole_view, good + ((), (0,)), {**wrong, 3: ((0,), (InvalidProgram, 0)), 4: ([0], (InvalidDatum, -1))})
+        try_order(self, whole_view, good + ((), (0,)),
+            {**wrong, 3: ((0,), (InvalidProgram, 0)), 4: ([0], (InvalidDatum, -1))})
         try_wrong(self, beside_guesser, (SMALL, UP, DOWN), {1: InvalidProcessor, 2: InvalidProcessor})
         try_order(self, beside_guesser, (SMALL, UP, DOWN), {
-            0: (None, (InvalidFrame, -1)), 1: (((4,), (0,)), (InvalidProcessor, 0)), 2: (((0,), ((),)), (InvalidProcessor, 1))})
+            0: (None, (InvalidFrame, -1)), 1: (((4,), (0,)), (InvalidProcessor, 0)),
+            2: (((0,), ((),)), (InvalidProcessor, 1))})
 
 
 class SlowStretches:
@@ -299,7 +315,8 @@ class SureTest(unittest.TestCase):
             draw = random.Random(f"42 {frame}")
             for part in parts_of(frame, 5, 42):
                 for lot in draw.sample(LOTS, 3):
-                    for paper_of, judge, guarded in ((sure_paper, sure_holds, False), (guarded_paper, guarded_holds, True)):
+                    for paper_of, judge, guarded in ((sure_paper, sure_holds, False),
+                            (guarded_paper, guarded_holds, True)):
                         paper = paper_of(frame, part, lot)
                         least = SlowStretches(frame, (part,), lot, guarded).least()
                         self.assertTrue(is_tupled(paper))
@@ -313,14 +330,16 @@ class SureTest(unittest.TestCase):
                         if guarded:
                             self.assertTrue(is_guarded(frame, paper[1], lot))
                             self.assertTrue(slow_guarded(frame, paper[1], lot))
-        self.assertTrue(all(words.count((guarded, word)) > 10 for guarded in (True, False) for word in ("sure", "broken")))
+        self.assertTrue(all(words.count((guarded, word)) > 10 for guarded in (True, False) for word in ("sure",
+            "broken")))
 
     def test_beside_all_guessers(self):
         for frame in FRAMES[:4]:
             draw = random.Random(f"43 {frame}")
             for part in parts_of(frame, 5, 43):
                 for lot in LOTS:
-                    sure, guarded = sure_paper(frame, part, lot)[0] == "sure", guarded_paper(frame, part, lot)[0] == "sure"
+                    sure, guarded = sure_paper(frame, part, lot)[0] == "sure", guarded_paper(frame, part,
+                        lot)[0] == "sure"
                     self.assertTrue(guarded or not sure)
                     for _ in range(3 if guarded else 0):
                         guesser = some(draw, frame, draw.randrange(1, 3))
@@ -369,7 +388,8 @@ class SureTest(unittest.TestCase):
     def test_any_sure_lots(self):
         draw, seen = random.Random(46), []
         for frame in FRAMES[:1] + [(2, 2, 0, (AND,), 0)]:
-            for part in list(parts_of(frame, 3, 46)) + [((0, 0), (((1, 0),) * events_many(frame), ((1, 1),) * events_many(frame)))]:
+            for part in list(parts_of(frame, 3, 46)) + [((0, 0),
+                    (((1, 0),) * events_many(frame), ((1, 1),) * events_many(frame)))]:
                 states = range(len(part[0]))
                 every = sorted(itertools.product(data_of(frame), data_of(frame), states, states, (0, 1)))
                 for lot in LOTS[::2]:
@@ -395,7 +415,9 @@ class SureTest(unittest.TestCase):
             if not isinstance(value, tuple) or len(value) != 2 or value[0] != "sure" or not isinstance(value[1], tuple):
                 return False
             right = list(itertools.product(data_of(frame), data_of(frame), (0,), (0,), (0, 1)))
-            return all(one in right for one in value[1]) and list(value[1]) == sorted(set(value[1])) and slow[guarded].is_sure(value[1])
+            if not all(one in right for one in value[1]):
+                return False
+            return list(value[1]) == sorted(set(value[1])) and slow[guarded].is_sure(value[1])
 
         for paper_of, judge, guarded in ((sure_paper, sure_holds, False), (guarded_paper, guarded_holds, True)):
             paper = paper_of(frame, still, ())
@@ -419,8 +441,8 @@ class SureTest(unittest.TestCase):
         ring = ((3,) * 60, tuple(((1, (state + 1) % 60),) * many for state in range(60)))
         self.assertIs(is_guarded(frame, ring, ()), True)
         # It goes round by another way behind operations on a 1.
-        steps = tuple(tuple(
-            (1, (state + (2 if event[0] == "op" and event[2] else 1)) % 60) for event in frame_events(frame)) for state in range(60))
+        moves = [2 if event[0] == "op" and event[2] else 1 for event in frame_events(frame)]
+        steps = tuple(tuple((1, (state + move) % 60) for move in moves) for state in range(60))
         halves = ((0,) * 30 + (3,) * 30, steps)
         self.assertIs(is_guarded(frame, halves, (0,)), True)
         self.assertIs(is_guarded(frame, halves, (1, 6)), False)
@@ -434,6 +456,50 @@ class SureTest(unittest.TestCase):
         for function in (sure_holds, guarded_holds):
             try_wrong(self, function, good + (None,), {1: InvalidProcessor, 2: InvalidLot})
             try_order(self, function, good + (None,), wrong)
+
+
+def reads_of(frame, guesser, steps):
+    """For each step whether its wrong events are read."""
+    events, state, told = frame_events(frame), 0, []
+    for event, wrong in steps:
+        is_read = event[0] == "fork" and guesser[0][state] in ((2, 3), (1, 3))[event[1]]
+        told.append(is_read)
+        for read in (wrong if is_read else ()) + (event,):
+            state = guesser[1][state][events.index(read)][1]
+    return told
+
+
+class GuesserTest(unittest.TestCase):
+    def test_it_brings_what_is_asked_for(self):
+        seen = {}
+        for frame in ((2, 2, 0, (XOR,), 3), (2, 1, 2, (AND,), 2), (2, 2, 0, (AND, XOR), 1)):
+            draw, rows = random.Random(f"44 {frame}"), slow_rows(frame)
+            forks = [row for row in rows if row[0] == "fork"]
+            while sum(seen.get((frame, kind), 0) for kind in ("none", "right", "wrong", "later")) < 250:
+                program = tuple(draw.choice(draw.choice((rows, forks))) for _ in range(draw.randrange(1, 6)))
+                data = draw.sample(data_of(frame), 2)
+                runs = [run_steps(frame, program, datum) for datum in data]
+                if sides_of(runs[0]) != sides_of(runs[1]) or len(runs[0]) > len(program):
+                    continue
+                reads, parted = [], False
+                for step, other in zip(*runs):
+                    read = draw.random() < 0.7 and step[0][0] == "fork"
+                    reads.append((read, draw.random() < 0.5 and other[0][0] == "fork" if parted else read))
+                    parted = parted or step[0] != other[0] or read and step[1] != other[1]
+                parting = parting_of(runs, reads)
+                kind = "none" if parting is None else ("later" if parting[1] else "wrong") if parting[3] else "right"
+                seen[(frame, kind)] = seen.get((frame, kind), 0) + 1
+                guesser = guesser_of(frame, reads, parting)
+                need_processor(frame, guesser)
+                told = [reads_of(frame, guesser, steps) for steps in runs]
+                self.assertEqual(list(zip(*told)), reads, (program, data, reads, parting))
+        self.assertTrue(all(seen[(frame, kind)] > 3 for frame, kind in seen), seen)
+        self.assertEqual({kind for _, kind in seen}, {"none", "right", "wrong", "later"})
+
+    def test_no_more_than_sixty_states(self):
+        reads = [(False, False)] * 60
+        self.assertEqual(len(guesser_of(SMALL, reads, None)[0]), 60)
+        self.assertEqual(outcome(guesser_of, SMALL, reads + reads[:1], None), (Refused, "states"))
 
 
 class OneClockTest(unittest.TestCase):
@@ -478,7 +544,8 @@ class OneClockTest(unittest.TestCase):
             draw = random.Random(f"49 {frame}")
             for part in parts_of(frame, 4, 49):
                 twice = ((0,), (((2, 0),) * events_many(frame),))
-                late = tuple(tuple((beats + (event[0] == "fence"), state) for event, (beats, state) in zip(frame_events(frame), row)) for row in part[1])
+                late = tuple(tuple((beats + (event[0] == "fence"), state) for event, (beats,
+                    state) in zip(frame_events(frame), row)) for row in part[1])
                 for other in (part, some(draw, frame, 2), (part[0], late), put_beside(frame, part, twice)):
                     paper = stands_paper(frame, part, other)
                     least = SlowStretches(frame, (part, other), None, False).least()
@@ -504,13 +571,15 @@ class OneClockTest(unittest.TestCase):
         for frame in FRAMES[:4]:
             draw = random.Random(f"50 {frame}")
             for part in parts_of(frame, 3, 50):
-                late = tuple(tuple((beats + 2 * (event[0] == "fence"), state) for event, (beats, state) in zip(frame_events(frame), row)) for row in part[1])
+                late = tuple(tuple((beats + 2 * (event[0] == "fence"), state) for event, (beats,
+                    state) in zip(frame_events(frame), row)) for row in part[1])
                 other = (part[0], late)
                 self.assertEqual(stands_paper(frame, part, other)[0], "stands")
                 for _ in range(2):
                     guesser, beside = some(draw, frame, 2), some(draw, frame, 1)
                     clocks = [
-                        put_beside(frame, beside_guesser(frame, guesser, one), beside_guesser(frame, guesser, beside)) for one in (part, other)]
+                        put_beside(frame, beside_guesser(frame, guesser, one),
+                        beside_guesser(frame, guesser, beside)) for one in (part, other)]
                     for lot in LOTS[::2]:
                         self.assertEqual(is_kept(frame, clocks[0], lot), is_kept(frame, clocks[1], lot))
 
@@ -550,10 +619,13 @@ class OneClockTest(unittest.TestCase):
         slow = SlowStretches(SMALL, (UP, DOWN), None, False)
 
         def expected(value):
-            if not isinstance(value, tuple) or len(value) != 2 or value[0] != "stands" or not isinstance(value[1], tuple):
+            if not isinstance(value, tuple) or len(value) != 2 or value[0] != "stands" or not isinstance(value[1],
+                    tuple):
                 return False
             right = list(itertools.product(data_of(SMALL), data_of(SMALL), ((0, 0),), ((0, 0),), (0, 1)))
-            return all(one in right for one in value[1]) and list(value[1]) == sorted(set(value[1])) and slow.is_sure(value[1])
+            if not all(one in right for one in value[1]):
+                return False
+            return list(value[1]) == sorted(set(value[1])) and slow.is_sure(value[1])
 
         try_judge(self, lambda value: stands_hold(SMALL, UP, DOWN, value), paper, expected)
         frame = (2, 2, 0, (XOR,), 1)
@@ -570,7 +642,8 @@ class OneClockTest(unittest.TestCase):
         try_wrong(self, partner, (SMALL, UP), {1: InvalidProcessor})
         try_order(self, partner, (SMALL, UP), {0: (None, (InvalidFrame, -1)), 1: (((4,), (0,)), (InvalidProcessor, 0))})
         wrong = {
-            0: (None, (InvalidFrame, -1)), 1: (((4,), (0,)), (InvalidProcessor, 0)), 2: (((0,), ((),)), (InvalidProcessor, 1))}
+            0: (None, (InvalidFrame, -1)), 1: (((4,), (0,)), (InvalidProcessor, 0)),
+            2: (((0,), ((),)), (InvalidProcessor, 1))}
         try_wrong(self, stands_paper, (SMALL, UP, DOWN), {1: InvalidProcessor, 2: InvalidProcessor})
         try_order(self, stands_paper, (SMALL, UP, DOWN), wrong)
         try_order(self, stands_hold, (SMALL, UP, DOWN, None), wrong)

@@ -25,13 +25,15 @@ DEAF = ((5,), ((0,),))
 
 def some_machine(draw, states, said=2, moves=3):
     says = tuple(draw.randrange(said) for _ in range(states))
-    return says, tuple(tuple(draw.randrange(states) for _ in range(draw.randrange(1, moves + 1))) for _ in range(states))
+    return says, tuple(tuple(draw.randrange(states) for _ in range(draw.randrange(1,
+        moves + 1))) for _ in range(states))
 
 
 def shows(frame, processor, watcher, told):
     lot, program, one, other = told
     views = [view_of(frame, processor, program, datum) for datum in (one, other)]
-    return unlike_atoms(frame, program, one, other) == (lot, False) and told_by(watcher, views[0]) != told_by(watcher, views[1])
+    return unlike_atoms(frame, program, one, other) == (lot, False) and told_by(watcher, views[0]) != told_by(watcher,
+        views[1])
 
 
 def step_of(machine, state, beats):
@@ -83,7 +85,8 @@ class NeedTest(unittest.TestCase):
 
     def test_wrong_ones(self):
         for value, at in (
-                ("row", -1), ("", -1), (None, -1), ((), -1), (((), ()), -1), (((0,), ()), -1), (((0,), ((0,), (0,))), -1),
+                ("row", -1), ("", -1), (None, -1), ((), -1), (((), ()), -1), (((0,), ()), -1),
+                (((0,), ((0,), (0,))), -1),
                 (((0,) * 7, ((0,),) * 7), -1), ([(0,), ((0,),)], -1), (([0], ((0,),)), -1), (((0,), [(0,)]), -1),
                 (((0,), ((0,),), ()), -1), (((-1,), ((0,),)), 0), (((True,), ((0,),)), 0), (((None,), ((1,),)), 0),
                 ((("a", 0), ((0,), (0,))), 0), (((0,), ((),)), 1), (((0,), ([0],)), 1), (((0,), ((1,),)), 1),
@@ -95,8 +98,10 @@ class NeedTest(unittest.TestCase):
     def test_what_is_told(self):
         for watcher, view, expected in (
                 ("rows", [], ()), ("rows", [3, 1], (3, 1)), ("rows", (HUGE,), (HUGE,)), ("stopwatch", (), 0),
-                ("stopwatch", [3, 1, 1], 5), (LAST, (), 0), (LAST, (1,), 0), (LAST, (2,), 1), (LAST, (9, 1), 0), (LAST, (1, HUGE), 1),
-                (PARITY, (1, 1, 2, 1), 1), (PARITY, (2,), 0), (DEAF, [7], 5), (((1, 2, 3), ((1, 2), (1,), (0, 2))), (2, 1, 3), 3)):
+                ("stopwatch", [3, 1, 1], 5), (LAST, (), 0), (LAST, (1,), 0), (LAST, (2,), 1), (LAST, (9, 1), 0),
+                (LAST, (1, HUGE), 1),
+                (PARITY, (1, 1, 2, 1), 1), (PARITY, (2,), 0), (DEAF, [7], 5),
+                (((1, 2, 3), ((1, 2), (1,), (0, 2))), (2, 1, 3), 3)):
             self.assertEqual(told_by(watcher, view), expected, (watcher, view))
         for view in (None, 0, "1", [0], (1, 0), [True], [None], ["1"], [-1], [[1]], {1: 1}):
             self.assertEqual(outcome(told_by, "rows", view), (InvalidSize, "beats"), view)
@@ -166,7 +171,8 @@ class SeenTest(unittest.TestCase):
     def test_any_values(self):
         good = (SMALL, UP, LAST)
         wrong = {
-            0: (None, (InvalidFrame, -1)), 1: (((4,), (0,)), (InvalidProcessor, 0)), 2: (((0,), ((),)), (InvalidWatcher, 1)),
+            0: (None, (InvalidFrame, -1)), 1: (((4,), (0,)), (InvalidProcessor, 0)),
+            2: (((0,), ((),)), (InvalidWatcher, 1)),
             3: ([3, 3], (InvalidLot, 1))}
         errors = {1: InvalidProcessor, 2: InvalidWatcher, 3: InvalidLot}
         try_wrong(self, seen_leaks, good, {place: errors[place] for place in (1, 2)})
@@ -194,7 +200,8 @@ def slow_word(machine, most):
     while True:
         kept = {
             pair for pair in pairs
-            if any((step_of(machine, pair[0], one), step_of(machine, pair[1], other)) in pairs for one in beats for other in beats)}
+            if any((step_of(machine, pair[0], one),
+            step_of(machine, pair[1], other)) in pairs for one in beats for other in beats)}
         if kept == pairs:
             break
         pairs = kept
@@ -212,7 +219,8 @@ def slow_machine_holds(machine, most, value):
     states, beats = range(len(machine[0])), range(1, most + 1)
     if value[0] == "blind" and len(value) == 6:
         _, ahead, one, other, behind, ring = value
-        if not all(isinstance(part, tuple) for part in (ahead, behind, ring)) or not all(map(is_beat, ahead + (one, other))):
+        if not all(isinstance(part, tuple) for part in (ahead, behind, ring)) or not all(map(is_beat,
+                ahead + (one, other))):
             return False
         if one == other or ring == () or not all(
                 isinstance(pair, tuple) and len(pair) == 2 and all(map(is_beat, pair)) for pair in behind + ring):
@@ -261,8 +269,10 @@ RANKED = [
     (((2, 2, 4, 3, 1, 2), ((5, 3), (2, 4), (0, 4), (4, 1), (5, 1), (3, 0))), ((1, 5, 0),)),
     (((2, 0, 4, 0, 0, 4), ((3, 5), (2, 5), (0, 1), (5, 2), (1, 4), (5, 4))), ((1, 4, 0), (2, 5, 1))),
     (((3, 3, 3, 0, 1, 2), ((0, 1), (2, 4), (5, 3), (1, 2), (2, 1), (2, 1))), ((0, 1, 1), (0, 2, 0), (1, 2, 0))),
-    (((3, 1, 4, 4, 3, 4), ((4, 1), (4, 0), (4, 1), (0, 2), (5, 2), (3, 5))), ((0, 4, 0), (2, 3, 1), (2, 5, 0), (3, 5, 2))),
-    (((2, 2, 1, 2, 0, 1), ((0, 1), (5, 3), (5, 0), (2, 4), (1, 4), (4, 3))), ((0, 1, 3), (0, 3, 0), (1, 3, 2), (2, 5, 1)))]
+    (((3, 1, 4, 4, 3, 4), ((4, 1), (4, 0), (4, 1), (0, 2), (5, 2), (3, 5))),
+    ((0, 4, 0), (2, 3, 1), (2, 5, 0), (3, 5, 2))),
+    (((2, 2, 1, 2, 0, 1), ((0, 1), (5, 3), (5, 0), (2, 4), (1, 4), (4, 3))),
+    ((0, 1, 3), (0, 3, 0), (1, 3, 2), (2, 5, 1)))]
 SEEING = [machine for machine, _ in RANKED] + [LAST, ((0, 1, 2), ((1, 2), (2, 0), (0, 1)))]
 
 
@@ -299,9 +309,12 @@ class MachineTest(unittest.TestCase):
                     self.assertIs(machine_holds(machine, 2, ("sees", with_part(ranks, at, rank[:2] + (less,)))), False)
                 for more in range(1, 5):
                     greater = with_part(ranks, at, rank[:2] + (rank[2] + more,))
-                    self.assertIs(machine_holds(machine, 2, ("sees", greater)), slow_machine_holds(machine, 2, ("sees", greater)))
-            self.assertIs(machine_holds(machine, 2, ("sees", tuple(rank[:2] + (rank[2] + HUGE,) for rank in ranks))), True)
-            self.assertIs(machine_holds(machine, 2, ("sees", tuple(rank[:2] + (rank[2] * 7 + 3,) for rank in ranks))), True)
+                    self.assertIs(machine_holds(machine, 2, ("sees", greater)),
+                        slow_machine_holds(machine, 2, ("sees", greater)))
+            self.assertIs(machine_holds(machine, 2, ("sees", tuple(rank[:2] + (rank[2] + HUGE,) for rank in ranks))),
+                True)
+            self.assertIs(machine_holds(machine, 2, ("sees", tuple(rank[:2] + (rank[2] * 7 + 3,) for rank in ranks))),
+                True)
             self.assertIs(machine_holds(machine, 3, ("sees", ranks)), False)
 
     def test_ranks_of_more_pairs(self):
@@ -344,12 +357,14 @@ class MachineTest(unittest.TestCase):
         for machine in some_machines(40):
             beats = lambda: tuple(draw.randrange(1, 4) for _ in range(draw.randrange(3)))
             for _ in range(15):
-                pairs = [tuple((draw.randrange(1, 4), draw.randrange(1, 4)) for _ in range(draw.randrange(3))) for _ in range(2)]
+                pairs = [tuple((draw.randrange(1, 4),
+                    draw.randrange(1, 4)) for _ in range(draw.randrange(3))) for _ in range(2)]
                 value = ("blind", beats(), draw.randrange(1, 4), draw.randrange(1, 4), pairs[0], pairs[1])
                 seen.append(machine_holds(machine, 3, value))
                 self.assertIs(seen[-1], slow_machine_holds(machine, 3, value))
             states = len(machine[0])
-            ranks = {tuple(sorted((draw.randrange(states), draw.randrange(states)))): draw.randrange(4) for _ in range(3)}
+            ranks = {tuple(sorted((draw.randrange(states),
+                draw.randrange(states)))): draw.randrange(4) for _ in range(3)}
             value = ("sees", tuple(sorted(pair + (rank,) for pair, rank in ranks.items())))
             self.assertIs(machine_holds(machine, 3, value), slow_machine_holds(machine, 3, value))
         self.assertIn(True, seen)
@@ -361,7 +376,8 @@ class MachineTest(unittest.TestCase):
                 self.assertEqual(outcome(function, DEAF, value), (InvalidSize, "most"), value)
             for value in ANY + ["rows", "stopwatch"]:
                 self.assertIn(outcome(function, value, 2)[0], (InvalidWatcher,), value)
-        try_order(self, machine_holds, (DEAF, 2, None), {0: ("rows", (InvalidWatcher, -1)), 1: (1, (InvalidSize, "most"))})
+        try_order(self, machine_holds, (DEAF, 2, None),
+            {0: ("rows", (InvalidWatcher, -1)), 1: (1, (InvalidSize, "most"))})
         self.assertIs(machine_holds(DEAF, 9, None), False)
 
 
