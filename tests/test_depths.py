@@ -33,6 +33,29 @@ def processors(frame, many, seed=0):
         yield (3,) * states, rows
 
 
+def made_good(frame, many, seed=0):
+    """Processors whose forks take unlike beats behind wrong events, which may make them good, and lead elsewhere."""
+    draw = random.Random(f"{seed} {frame}")
+    for _ in range(many):
+        states = draw.randrange(2, 4)
+        rows = []
+        for state in range(states):
+            beats, later = [draw.randrange(1, 4) for _ in range(2)], [draw.choice((0, state)) for _ in range(2)]
+            plain, by_value = draw.choice((0, 0, state)), draw.random() < 0.3
+            reads = {}
+            row = []
+            for event in frame_events(frame):
+                if event[0] == "fork":
+                    row.append((beats[event[1]], later[event[1]]))
+                elif event[0] == "wrong op":
+                    seen = event[:2] + tuple(value for value in event[2:] if draw.random() < 0.2)
+                    row.append(reads.setdefault(seen, (draw.randrange(1, 3), draw.randrange(states))))
+                else:
+                    row.append((1, event[2] if by_value and event[0] == "op" else plain))
+            rows.append(tuple(row))
+        yield tuple(draw.choice((0, 1, 2, 3, 3)) for _ in range(states)), tuple(rows)
+
+
 def with_deep(frame, deep):
     return frame[:4] + (deep,)
 
@@ -208,6 +231,19 @@ class DepthTest(unittest.TestCase):
                     words[depth] = words.get(depth, 0) + 1
         self.assertTrue(all(words.get(depth, 0) > 2 for depth in (None, 0, 1, 2)), words)
 
+    def test_surpluses_that_are_made_good(self):
+        words = {}
+        for frame in ((2, 1, 0, (AND,), 1), (2, 1, 0, (XOR, AND), 1)):
+            for processor in made_good(frame, 150):
+                for lot in ((), (6,), (6, 7)):
+                    paper = depth_paper(frame, processor, lot)
+                    self.assertIs(depth_holds(frame, processor, lot, paper), True, (frame, processor, lot, paper))
+                    self.assertTrue(slow_holds(frame, processor, lot, paper))
+                    depth = None if paper[0] == "always" else paper[1]
+                    self.check_depth(frame, processor, lot, depth)
+                    words[depth] = words.get(depth, 0) + 1
+        self.assertTrue(all(words.get(depth, 0) > 1 for depth in (None, 0, 1, 2)), words)
+
     def check_depth(self, frame, processor, lot, depth):
         """At depths below alone the lot is kept by frames of every number of registers."""
         self.assertTrue(depth is None or depth <= 2 * len(processor[0]) - 1)
@@ -269,6 +305,11 @@ class DepthTest(unittest.TestCase):
             many = len(processor[0])
             for lot in LOTS[::2]:
                 paper = depth_paper(frame, processor, lot)
+                for outs in ((0,) * many, (None,) * many, tuple(range(many)), (0,) + (None,) * (many - 1)):
+                    for classes in ((0,) * (2 * many), (None,) * (2 * many), tuple(range(2 * many))):
+                        value = ("always", outs, (classes, classes))
+                        seen.append(depth_holds(frame, processor, lot, value))
+                        self.assertIs(seen[-1], slow_holds(frame, processor, lot, value), (processor, lot, value))
                 for _ in range(12):
                     some = lambda size: tuple(draw.choice((None, 0, 1, HUGE)) for _ in range(size))
                     changed = lambda classes: with_part(classes, draw.randrange(len(classes)),
@@ -288,6 +329,24 @@ class DepthTest(unittest.TestCase):
                     other = lambda classes: tuple(None if part is None else 5 * part + HUGE for part in classes)
                     self.assertIs(depth_holds(frame, processor, lot, ("always", other(paper[1]), tuple(map(other, paper[2])))), True)
         self.assertGreater(min(seen.count(True), seen.count(False)), 15)
+
+    def test_what_outs_must_go_with(self):
+        # One thing after another is unlike in two states that are told as one class.
+        frame = (2, 1, 0, (AND,), 1)
+        events, many = frame_events(frame), 11
+        value, seen = ("always", (0, 0), ((0, 0, 1, 1),) * 2), []
+        for number in range(many):
+            for beats, state in ((2, 0), (1, 1), (2, 1)):
+                row = with_part(((1, 0),) * many, number, (beats, state))
+                for guesses in ((0, 0), (3, 3), (0, 3)):
+                    processor = (guesses, (((1, 0),) * many, row))
+                    for lot in ((), (0, 1, 6, 7)):
+                        expected = slow_holds(frame, processor, lot, value)
+                        self.assertIs(depth_holds(frame, processor, lot, value), expected, (events[number], beats, state))
+                        seen.append(expected)
+                apart = ("always", (0, 1), ((0, 1, 2, 3),) * 2)
+                self.assertIs(depth_holds(frame, processor, (), apart), slow_holds(frame, processor, (), apart))
+        self.assertGreater(min(seen.count(True), seen.count(False)), 20)
 
     def test_changed_papers(self):
         frame = (2, 1, 0, (AND,), 1)

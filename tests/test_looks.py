@@ -124,6 +124,12 @@ class LookTest(unittest.TestCase):
                 ("both", (SMALL, STILL), (bench, bench))):
             self.assertIs(look_holds(value), False)
         self.assertIs(look_holds(("court", (frame, still, (3, 3)), look[2])), False)
+        # The court would take the lot as a list, but a look has none.
+        self.assertIs(court_holds(frame, still, [0], look[2]), True)
+        self.assertIs(look_holds(("court", (frame, still, (0,)), look[2])), True)
+        self.assertIs(look_holds(("court", (frame, still, [0]), look[2])), False)
+        asks = make_look("asks", (frame, (), (), (((0, 0),),)))
+        self.assertIs(look_holds(("asks", (frame, (), (), ([(0, 0)],)), asks[2])), False)
         self.assertIs(compiled_holds(frame, (), (((0, 0),),), (0,), (), look[2]), False)
 
     def test_words_and_questions(self):

@@ -425,9 +425,37 @@ class SureTest(unittest.TestCase):
             try_judge(self, lambda value: judge(frame, still, (), value), paper, lambda value: expected(guarded, value))
         wide = (2, 2, 0, (AND,), 1)
         part = ((0,), (((1, 0),) * events_many(wide),))
+        # What is parted is so or not, and of guarded guessers it never is.
+        lot = (0, 1, 6, 7)
+        least = sure_paper(wide, part, lot)[1]
+        every = tuple(sorted(itertools.product(data_of(wide), data_of(wide), (0,), (0,), (0, 1))))
+        for judge, guarded in ((sure_holds, False), (guarded_holds, True)):
+            slow_one = SlowStretches(wide, (part,), lot, guarded)
+            for value in (least, every, tuple(one for one in every if one[4] == 0)):
+                self.assertIs(judge(wide, part, lot, ("sure", value)), slow_one.is_sure(value))
+                for parted in (-1, True, None):
+                    changed = (value[0][:4] + (parted,),) + value[1:]
+                    self.assertIs(judge(wide, part, lot, ("sure", changed)), False)
+        told = (((0,), (1,), 0, 0, 0), ((1,), (1,), 0, 0, 1), ((1,), (1,), 0, 0, 2))
+        self.assertIs(sure_holds(SMALL, UP, (), ("sure", told[:2])), True)
+        self.assertIs(sure_holds(SMALL, UP, (), ("sure", told)), False)
+        self.assertIs(guarded_holds(SMALL, UP, (), ("sure", told[:1])), True)
+        self.assertIs(guarded_holds(SMALL, UP, (), ("sure", told[:2])), False)
         paper = sure_paper(wide, part, ())
         try_judge(self, lambda value: sure_holds(wide, part, (), value), paper)
         self.assertIs(sure_holds(wide, part, (), ("broken", 0) + paper[2:]), False)
+        # Data that go unlike sides show nothing that is to be kept.
+        sides = ((0,), (tuple((2 if event == ("fork", 1) else 1, 0) for event in frame_events(wide)),))
+        for judge in (sure_holds, guarded_holds):
+            for program, expected in (((("fork", 0, (), ()),), False), ((("op", 0, 1, 0, 0), ("fork", 1, (), ())), False)):
+                self.assertIs(judge(wide, sides, (), ("broken", sides, program, (0, 0), (1, 0))), expected)
+        ones = ((0,), (tuple((1 + event[2] if event[0] == "op" else 1, 0) for event in frame_events(wide)),))
+        for judge in (sure_holds, guarded_holds):
+            told = ("broken", ones, (("op", 0, 1, 0, 0),), (0, 0), (1, 0))
+            self.assertIs(judge(wide, ones, (), told), True)
+            self.assertIs(judge(wide, ones, (0,), told), False)
+            self.assertIs(judge(wide, ones, (6,), told), True)
+            self.assertIs(judge(wide, ones, (), told[:4] + told[3:4]), False)
 
     def test_guessers_of_sixty_states_are_judged(self):
         frame = (2, 2, 0, (AND,), 1)

@@ -158,6 +158,23 @@ class SeenTest(unittest.TestCase):
                 self.assertEqual(told == (), seen_within(frame, processor, machine, tuple(range(10))) is None)
         self.assertEqual(seen_leaks(SMALL, UP, LAST), ())
 
+    def test_one_reads_a_wrong_way_and_the_other_does_not(self):
+        # A value read chooses whether the next fork's other side is read, so how many beats that takes.
+        for frame in ((2, 2, 0, (AND,), 1), (2, 1, 2, (), 1)):
+            events = frame_events(frame)
+            for wrong, fork in ((1, 1), (2, 1)):
+                row = tuple(
+                    (1, event[2]) if event[0] in ("op", "load") else (fork, 0) if event[0] == "fork" else (1, 0)
+                    for event in events)
+                read = tuple(
+                    (wrong, 1) if event[0].startswith("wrong") else (fork, 0) if event[0] == "fork" else (1, 1)
+                    for event in events)
+                for guess in (2, 3):
+                    processor = ((0, guess), (row, read))
+                    for machine in (LAST, ((0, 1, 2), ((0, 1, 2),) * 3), ((0, 0, 1), ((0,), (0, 2), (2,))), PARITY):
+                        told = seen_leaks(frame, processor, machine)
+                        self.assertEqual(told, slow_seen(frame, processor, machine), (frame, processor, machine))
+
     def test_a_deaf_machine_sees_nothing(self):
         frame = (2, 2, 0, (XOR,), 0)
         loud = ((0,), (tuple((1 + event[-1], 0) if event[0] == "op" else (1, 0) for event in frame_events(frame)),))
@@ -331,6 +348,8 @@ class MachineTest(unittest.TestCase):
         self.assertIs(machine_holds(lonely, 2, ("sees", ((2, 3, 0),))), True)
         self.assertIs(machine_holds(lonely, 2, ("sees", ((2, 3, HUGE),))), True)
         self.assertIs(machine_holds(lonely, 2, ("sees", ((3, 2, 0),))), False)
+        # No two states are there twice, also with unlike ranks.
+        self.assertIs(machine_holds(lonely, 2, ("sees", ((2, 3, 0), (2, 3, 1)))), False)
         self.assertIs(machine_holds(lonely, 2, ("sees", ((0, 1, 0),))), False)
         self.assertIs(machine_holds(lonely, 2, ("sees", ((2, 2, 0),))), False)
 
