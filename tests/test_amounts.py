@@ -112,8 +112,7 @@ class ShownTest(unittest.TestCase):
     def check(self, frame, program, lot, parts, processor):
         need_processor(frame, processor)
         self.assertTrue(is_tupled(processor))
-        if len(data_of(frame)) < 16:
-            self.assertTrue(is_kept(frame, processor, lot))
+        self.assertTrue(is_kept(frame, processor, lot))
         sums = [{sum_of(frame, processor, program, datum) for datum in part} for part in parts]
         self.assertTrue(all(len(told) == 1 for told in sums), sums)
         self.assertEqual(len(set().union(*sums)), len(parts))
@@ -212,7 +211,7 @@ class SingleTest(unittest.TestCase):
                     expected = slow_looks_alone(frame, processor, lot)
                     self.assertIs(looks_alone(frame, processor, lot), expected)
                     self.assertIs(looks_alone(frame, processor, list(lot)), expected)
-                    if expected and len(data_of(frame)) < 16:
+                    if expected:
                         self.assertTrue(is_kept(frame, processor, lot))
                     seen.append(expected)
         self.assertGreater(min(seen.count(True), seen.count(False)), 20)
